@@ -1,0 +1,1 @@
+"""Counters that are read while they change."""

@@ -1,0 +1,91 @@
+"""Rules of LANGUAGE.md that can be told by looking at the syntax of the package."""
+
+import ast
+import builtins
+import pathlib
+import unittest
+
+FOLDER = pathlib.Path(__file__).resolve().parent.parent / "halfread"
+FILES = sorted(path for path in FOLDER.rglob("*") if path.suffix != ".pyc" and path.name != "__pycache__")
+
+BUILTINS = {
+    "len", "range", "enumerate", "zip", "min", "max", "sum", "abs", "sorted", "reversed", "int", "str", "bool",
+    "list", "tuple", "dict", "set", "isinstance", "ord", "repr", "any", "all", "divmod", "ValueError", "TypeError",
+    "KeyError", "super", "property", "classmethod", "staticmethod",
+}
+STATEMENTS = (
+    ast.Assign, ast.AugAssign, ast.If, ast.While, ast.For, ast.Return, ast.Break, ast.Continue, ast.Pass, ast.Raise,
+    ast.Assert, ast.Delete, ast.Try, ast.Expr, ast.FunctionDef, ast.ClassDef, ast.ImportFrom, ast.Nonlocal,
+)
+KNOWN = {name for name in dir(builtins) if not name.startswith("_")}
+SPECIAL = {
+    "__init__", "__eq__", "__repr__", "__str__", "__len__", "__call__", "__iter__", "__contains__", "__getitem__",
+    "__neg__",
+}
+
+
+def tree_of(path):
+    return ast.parse(path.read_text(encoding="utf-8"))
+
+
+def nodes(path, kind):
+    return [node for node in ast.walk(tree_of(path)) if isinstance(node, kind)]
+
+
+class LanguageTest(unittest.TestCase):
+    def test_files(self):
+        self.assertEqual([path.name for path in FILES if path.suffix != ".py"], [])
+        self.assertIn("__init__.py", [path.name for path in FILES])
+        for path in FILES:
+            text = path.read_bytes()
+            self.assertTrue(all(byte == 10 or 32 <= byte <= 126 for byte in text), path)
+            lines = text.decode("ascii").split("\n")
+            self.assertLessEqual(len(lines), 399, path)
+            self.assertLessEqual(max(map(len, lines)), 120, path)
+
+    def test_functions_are_short(self):
+        for path in FILES:
+            for node in nodes(path, ast.FunctionDef):
+                self.assertLessEqual(node.end_lineno - node.lineno + 1, 40, (path, node.name))
+
+    def test_imports_name_the_file_that_defines(self):
+        for path in FILES:
+            self.assertEqual(nodes(path, ast.Import), [])
+            for node in nodes(path, ast.ImportFrom):
+                self.assertTrue(node.module.startswith("halfread."), (path, node.module))
+                source = FOLDER / (node.module.split(".", 1)[1] + ".py")
+                defined = {row.name for row in tree_of(source).body if isinstance(row, (ast.FunctionDef, ast.ClassDef))}
+                self.assertLessEqual({name.name for name in node.names}, defined)
+                self.assertTrue(all(name.asname is None for name in node.names))
+
+    def test_statements(self):
+        for path in FILES:
+            for node in nodes(path, ast.stmt):
+                self.assertIsInstance(node, STATEMENTS, (path, node.lineno))
+            for row in tree_of(path).body:
+                self.assertIsInstance(row, (ast.Expr, ast.Assign, ast.ImportFrom, ast.FunctionDef, ast.ClassDef))
+
+    def test_expressions(self):
+        for path in FILES:
+            self.assertEqual(nodes(path, (ast.GeneratorExp, ast.Div, ast.Yield, ast.NamedExpr, ast.MatMult)), [])
+            for node in nodes(path, ast.Constant):
+                self.assertNotIsInstance(node.value, (float, complex, bytes))
+                self.assertNotIn("%", str(node.value))
+            for node in nodes(path, ast.Compare):
+                for sign, side in zip(node.ops, node.comparators):
+                    if isinstance(sign, (ast.Is, ast.IsNot)):
+                        self.assertIn(ast.unparse(side), ("None", "True", "False"))
+
+    def test_names(self):
+        for path in FILES:
+            for node in nodes(path, ast.Name):
+                if node.id in KNOWN:
+                    self.assertIn(node.id, BUILTINS, (path, node.lineno))
+                    self.assertIsInstance(node.ctx, ast.Load, (path, node.lineno))
+            for node in nodes(path, ast.arg):
+                self.assertNotIn(node.arg, KNOWN)
+            for node in nodes(path, (ast.FunctionDef, ast.ClassDef)):
+                self.assertNotIn(node.name, KNOWN)
+                self.assertTrue(node.name in SPECIAL or not node.name.startswith("__"), (path, node.name))
+                for decorator in node.decorator_list:
+                    self.assertIn(ast.unparse(decorator), ("property", "classmethod", "staticmethod"))
