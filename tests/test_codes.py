@@ -288,8 +288,8 @@ class AlikeTest(unittest.TestCase):
 
     def test_smallest_of_small_codes(self):
         small = [Code(*[word_of(number, bits) for number in numbers])
-                 for bits in (1, 2) for values in (2, 3, 4) for numbers in itertools.permutations(range(2 ** bits), values)
-                 if values <= 2 ** bits]
+                 for bits in (1, 2) for values in (2, 3, 4)
+                 for numbers in itertools.permutations(range(2 ** bits), values)]
         for one in small:
             for other in small:
                 self.check(one, other)
