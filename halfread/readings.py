@@ -1,7 +1,7 @@
 """Readings of a counter while it steps, and how far off they are."""
 
 from halfread.checks import check_span, is_between
-from halfread.codes import check_code, check_value, is_word
+from halfread.codes import check_code, check_value
 
 MOST_SPAN = 4
 
@@ -54,64 +54,118 @@ def readings(code, value, span):
     return seen(code, value, span)
 
 
-def distance(code, one, other):
-    """The least number of steps between two values, either way round the ring."""
-    return min((one - other) % len(code), (other - one) % len(code))
+def numbers_of(code):
+    """The words of the code as numbers, the bit at place 0 counting most."""
+    numbers = []
+    for word in code.words:
+        number = 0
+        for bit in word:
+            number = 2 * number + bit
+        numbers.append(number)
+    return numbers
 
 
-def off_by(code, span, value, word):
-    """How far a reading is off in the window of a value; what is noticed is not off."""
-    at = code[word]
-    if at < 0:
-        return 0
-    return min([distance(code, at, inside) for inside in window_of(code, value, span)])
+def fixed_and_free(numbers, value, span):
+    """The bits that are 1 throughout a window, and the bits that differ in it, as two numbers."""
+    both = either = numbers[value]
+    for step in range(1, span + 1):
+        number = numbers[(value + step) % len(numbers)]
+        both = both & number
+        either = either | number
+    return both, both ^ either
 
 
-def all_seen(code, span):
-    """All pairs (value, word) with a reading, in ascending order."""
-    return [(value, word) for value in range(len(code)) for word in seen(code, value, span)]
+def seen_values(numbers, value, span):
+    """The ascending values of the code whose words are readings in the window of a value."""
+    fixed, free = fixed_and_free(numbers, value, span)
+    either = fixed | free
+    return [at for at, number in enumerate(numbers) if number | free == either]
+
+
+def gaps_from(values, span):
+    """How far a value is from a window, by the steps that it is ahead of the window's first value."""
+    return [max(0, min(ahead - span, values - ahead)) for ahead in range(values)]
+
+
+def all_off(code, span):
+    """A triple (by how much, value, value read) for each reading that is off."""
+    numbers = numbers_of(code)
+    gaps = gaps_from(len(code), span)
+    # An index below 0 counts from the end of the gaps, and so goes on round the ring.
+    return [
+        (gaps[at - value], value, at)
+        for value in range(len(numbers)) for at in seen_values(numbers, value, span) if gaps[at - value] > 0
+    ]
+
+
+def most_off(code, span):
+    """What off returns, of arguments that are checked."""
+    return max([by for by, _, _ in all_off(code, span)], default=0)
 
 
 def off(code, span):
     """The greatest number by which a reading is off."""
     check_code(code)
     check_span(span, MOST_SPAN)
-    return max([off_by(code, span, value, word) for value, word in all_seen(code, span)])
+    return most_off(code, span)
 
 
 def far_off(code, span):
     """The first (value, word) that is off by the greatest number; None if that is 0."""
-    most = off(code, span)
-    if most == 0:
-        return None
-    far = [(value, word) for value, word in all_seen(code, span) if off_by(code, span, value, word) == most]
-    return far[0]
+    check_code(code)
+    check_span(span, MOST_SPAN)
+    rows = all_off(code, span)
+    most = max([by for by, _, _ in rows], default=0)
+    return min([(value, code.words[at]) for by, value, at in rows if by == most], default=None)
+
+
+def off_by(code, span, value, at):
+    """How far the word of the value at is off when it is read in the window of a value; 0 if it cannot be read so."""
+    if at not in seen_values(numbers_of(code), value, span):
+        return 0
+    gaps = gaps_from(len(code), span)
+    return gaps[at - value]
 
 
 def shows_off(code, span, thing):
     """Whether any value shows by how much readings are off, as far_off does."""
-    most = off(code, span)
-    if most == 0:
-        return thing is None
+    check_code(code)
+    check_span(span, MOST_SPAN)
+    if thing is None:
+        return most_off(code, span) == 0
     if not isinstance(thing, tuple) or len(thing) != 2:
         return False
     value, word = thing
-    if not is_between(value, 0, len(code) - 1) or not is_word(word, code.bits):
+    if not is_between(value, 0, len(code) - 1) or word not in code:
         return False
-    return word in seen(code, value, span) and off_by(code, span, value, word) == most
+    by = off_by(code, span, value, code[word])
+    # The greatest number takes longest to tell, and most things fail without it.
+    return by > 0 and by == most_off(code, span)
 
 
 def tolerance(code):
     """The greatest span up to which no reading is off."""
     check_code(code)
     for span in range(1, MOST_SPAN + 1):
-        if off(code, span) > 0:
+        if most_off(code, span) > 0:
             return span - 1
     return MOST_SPAN
+
+
+def holes_at(numbers, value, span):
+    """How many readings in the window of a value are no word of the code."""
+    _, free = fixed_and_free(numbers, value, span)
+    many = 1
+    while free > 0:
+        # Each free bit doubles the readings; this takes the lowest one away.
+        free = free & (free - 1)
+        many = 2 * many
+    return many - len(seen_values(numbers, value, span))
 
 
 def holes(code, span):
     """How many pairs (value, word) have a reading that is no word of the code."""
     check_code(code)
     check_span(span, MOST_SPAN)
-    return len([word for value, word in all_seen(code, span) if word not in code])
+    numbers = numbers_of(code)
+    return sum([holes_at(numbers, value, span) for value in range(len(numbers))])

@@ -1,3 +1,5 @@
+import itertools
+import sys
 import unittest
 
 from halfread import readings as module
@@ -12,6 +14,9 @@ from support import (
 
 CODES = NAMED + some_codes(60, 2)
 SPANS = range(5)
+
+# The words that end with 0, by turns from the lower and from the upper end: most of them are read in most windows.
+LONG = Code(*[(*word_of(number, 4), 0) for low in range(8) for number in (low, 15 - low)])
 
 
 class InterfaceTest(unittest.TestCase):
@@ -207,6 +212,73 @@ class ShowsOffTest(unittest.TestCase):
 
 def wrong_for_none():
     return [thing for thing in no_integers() if thing is not None] + [0, 1, (0, (0, 0)), (1, (0, 0)), (None,), [None]]
+
+
+def calls_of(ask):
+    """How many calls of Python functions it takes to ask."""
+    calls = []
+    sys.setprofile(lambda frame, event, arg: calls.append(event) if event == "call" else None)
+    try:
+        ask()
+    finally:
+        sys.setprofile(None)
+    return len(calls)
+
+
+class AskedOftenTest(unittest.TestCase):
+    def test_the_words_of_the_long_code(self):
+        self.assertEqual(LONG.text().split()[:4] + LONG.text().split()[-2:],
+                         ["00000", "11110", "00010", "11100", "01110", "10000"])
+        self.assertEqual(len(LONG), 16)
+
+    def test_worked_out_by_hand(self):
+        # From value 0 on four bits change at once; all sixteen words can be read, and value 8 lies 7 from the window.
+        self.assertEqual([off(LONG, span) for span in (0, 1)], [0, 7])
+        self.assertIsNone(far_off(LONG, 0))
+        self.assertEqual(far_off(LONG, 1), (0, LONG.words[8]))
+        self.assertEqual([holes(LONG, span) for span in SPANS], [0, 0, 0, 0, 0])
+        self.assertEqual(tolerance(LONG), 0)
+
+    def test_the_long_code_asked_twice(self):
+        for span in SPANS:
+            rows = off_readings(LONG.words, span)
+            most = max(by for by, _, _ in rows)
+            right = [(value, word) for by, value, word in rows if by == most and most > 0]
+            words = sorted(LONG.words) + [(0, 0, 0, 0, 1)]
+            things = [None, *itertools.product(range(16), words)]
+            for _ in range(2):
+                self.assertTrue(same(off(LONG, span), most))
+                self.assertTrue(same(far_off(LONG, span), right[0] if right else None))
+                self.assertTrue(same(holes(LONG, span), holes_of(LONG.words, span)))
+                self.assertTrue(same(tolerance(LONG), 0))
+                told = [thing for thing in things if shows_off(LONG, span, thing)]
+                self.assertEqual(told, right or [None])
+
+    def test_small_codes_word_by_word(self):
+        words = [word_of(number, 2) for number in range(4)]
+        rings = [ring for many in (2, 3, 4) for ring in itertools.permutations(words, many)]
+        for ring in rings:
+            code = Code(*ring)
+            for span in SPANS:
+                rows = off_readings(ring, span)
+                most = max(by for by, _, _ in rows)
+                right = [(value, word) for by, value, word in rows if by == most and most > 0] or [None]
+                things = [None, *itertools.product(range(len(ring)), words)]
+                for _ in range(2):
+                    self.assertTrue(same((off(code, span), far_off(code, span)), (most, right[0])))
+                    self.assertTrue(same(holes(code, span), holes_of(ring, span)))
+                    self.assertEqual([thing for thing in things if shows_off(code, span, thing)], right)
+            spans = [span for span in SPANS if all(greatest_off(ring, less) == 0 for less in range(span + 1))]
+            self.assertTrue(same(tolerance(code), max(spans)))
+
+    def test_the_work_stays_small(self):
+        # Calls are counted, since times differ from machine to machine.
+        for span in SPANS:
+            for ask in (lambda: off(LONG, span), lambda: far_off(LONG, span), lambda: holes(LONG, span)):
+                self.assertLess(calls_of(ask), 150)
+            self.assertLess(calls_of(lambda: shows_off(LONG, span, (0, LONG.words[0]))), 100)
+            self.assertLess(calls_of(lambda: shows_off(LONG, span, (0, LONG.words[8]))), 250)
+        self.assertLess(calls_of(lambda: tolerance(SIXTEEN_GRAY)), 600)
 
 
 class RefusalsTest(unittest.TestCase):
