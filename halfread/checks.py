@@ -13,6 +13,11 @@ def is_between(thing, low, high):
     return is_whole(thing) and low <= thing <= high
 
 
+def are_between(thing, many, low, high):
+    """Whether any value is a tuple of so many integers from low to high."""
+    return isinstance(thing, tuple) and len(thing) == many and all([is_between(part, low, high) for part in thing])
+
+
 def check_number(number, low, high):
     """Refuse what is no integer from low to high."""
     if not is_between(number, low, high):

@@ -1,6 +1,6 @@
 """Codes: the words that stand for the values of a counter."""
 
-from halfread.checks import is_between, is_whole
+from halfread.checks import are_between, is_between, is_whole
 from halfread.errors import NoCode, NoOrder, NoPlaces, NoText, NoValue, NoWord, NoWords
 
 MOST_WORDS = 16
@@ -68,7 +68,7 @@ class Code:
 
 def is_word(thing, bits):
     """Whether any value is a word of so many bits."""
-    return isinstance(thing, tuple) and len(thing) == bits and all([is_between(bit, 0, 1) for bit in thing])
+    return are_between(thing, bits, 0, 1)
 
 
 def are_words(words):

@@ -169,3 +169,13 @@ def holes(code, span):
     check_span(span, MOST_SPAN)
     numbers = numbers_of(code)
     return sum([holes_at(numbers, value, span) for value in range(len(numbers))])
+
+
+def values_told(code, span):
+    """For each value, the ascending tuple of what may be read in its window: values, and -1 for what is none."""
+    numbers = numbers_of(code)
+    told = []
+    for value in range(len(numbers)):
+        noticed = [-1] if holes_at(numbers, value, span) > 0 else []
+        told.append((*noticed, *seen_values(numbers, value, span)))
+    return told

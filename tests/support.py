@@ -6,8 +6,11 @@ The counterparts follow the words of the document as directly as possible, over 
 import itertools
 import random
 
+from halfread.bridges import Bridge
 from halfread.codes import Code
+from halfread.crossings import Crossing
 from halfread.errors import NoCode, ReadError, TooMany
+from halfread.making import single
 
 PLAIN = Code((0, 0), (0, 1), (1, 0), (1, 1))
 GRAY = Code((0, 0), (0, 1), (1, 1), (1, 0))
@@ -62,6 +65,45 @@ def no_codes():
 def no_integers_from(low, high):
     """Values of many kinds, none of them an integer from low to high."""
     return no_integers() + [low - 1, high + 1, -(10 ** 12), 10 ** 12, low - 16, high + 16]
+
+
+def no_bridges():
+    """Values of many kinds, none of them a bridge."""
+    crossing = Crossing(Bridge(PLAIN, 2, 1, 1))
+    return no_integers() + [0, 1, -1, Bridge, (PLAIN, 2, 1, 1, 1), crossing, [Bridge(PLAIN, 2, 1, 1)]]
+
+
+def no_beats():
+    """Values of many kinds, none of them a beat."""
+    near = [(0, 0), (3, 0), (0, 3), (3, 3), (-1, 1), (1, -1), (True, 1), (1, True), (False, 1), (1, False), (1,), (1, 1, 1),
+            [1, 1], ((1, 1),), (1, "1"), ("1", 1), (None, 1), (1, None), ((1,), 1), (1, [1]), "11", {1: 1}, (2, 10 ** 12)]
+    return [thing for thing in no_integers() if not same(thing, (0, 1))] + near + [0, 1, 2, 11, Bridge(PLAIN, 2, 1, 1)]
+
+
+def some_bridges(many, seed, most=16):
+    """Bridges with codes of up to most values, among them many single ones, always the same for a seed."""
+    source = random.Random(seed)
+    bridges = []
+    for at, code in enumerate([code for code in some_codes(4 * many, seed) if len(code) <= most][:many]):
+        if at % 3 == 0 and len(code) % 2 == 0 and code.bits < 5:
+            code = single(len(code), code.bits)
+        late = source.choice([(1, 1), (1, 2), (2, 1), (2, 2), (1, 3), (3, 1), (3, 3)])
+        bridges.append(Bridge(code, source.randint(1, len(code) - 1), *late, source.choice([1, 2, 3])))
+    return bridges
+
+
+def some_states(bridge, many, source):
+    """States of any form, also such as never come up."""
+    last = len(bridge.code) - 1
+
+    def some(length, low, high):
+        return tuple(source.randint(low, high) for _ in range(length))
+
+    return [
+        (*some(2, 0, last), some(bridge.ahead, -1, last), some(bridge.behind, -1, last), some(bridge.slow - 1, 0, 1),
+         some(bridge.slow - 1, 0, 1))
+        for _ in range(many)
+    ]
 
 
 # The counterparts.

@@ -32,6 +32,14 @@ def nodes(path, kind):
     return [node for node in ast.walk(tree_of(path)) if isinstance(node, kind)]
 
 
+# Words that stand in no file but in comments and docstrings, and names that nothing has.
+BARRED = {
+    "type", "typing", "enum", "Enum", "Flag", "Generic", "Protocol", "ABC", "namedtuple", "NamedTuple", "TypedDict",
+    "register", "mro", "elements", "open", "input", "law", "iter", "next", "getattr", "setattr", "hasattr", "map",
+}
+OF_BUILTINS = {name for kind in (str, int, list, dict, set, bytes, tuple) for name in dir(kind) if name[0] != "_"}
+
+
 class LanguageTest(unittest.TestCase):
     def test_files(self):
         self.assertEqual([path.name for path in FILES if path.suffix != ".py"], [])
@@ -52,6 +60,9 @@ class LanguageTest(unittest.TestCase):
         for path in FILES:
             self.assertEqual(nodes(path, ast.Import), [])
             for node in nodes(path, ast.ImportFrom):
+                if node.module == "math":
+                    self.assertEqual([(name.name, name.asname) for name in node.names], [("gcd", None)])
+                    continue
                 self.assertTrue(node.module.startswith("halfread."), (path, node.module))
                 source = FOLDER / (node.module.split(".", 1)[1] + ".py")
                 defined = {row.name for row in tree_of(source).body if isinstance(row, (ast.FunctionDef, ast.ClassDef))}
@@ -89,3 +100,39 @@ class LanguageTest(unittest.TestCase):
                 self.assertTrue(node.name in SPECIAL or not node.name.startswith("__"), (path, node.name))
                 for decorator in node.decorator_list:
                     self.assertIn(ast.unparse(decorator), ("property", "classmethod", "staticmethod"))
+
+    def test_attributes_and_properties(self):
+        properties, stored = set(), set()
+        for path in FILES:
+            for node in nodes(path, ast.ClassDef):
+                for row in node.body:
+                    if isinstance(row, ast.FunctionDef) and [ast.unparse(name) for name in row.decorator_list] == ["property"]:
+                        properties.add(row.name)
+            stored |= {node.attr for node in nodes(path, ast.Attribute) if isinstance(node.ctx, ast.Store)}
+            methods = {row.name for node in nodes(path, ast.ClassDef) for row in node.body if isinstance(row, ast.FunctionDef)}
+            self.assertEqual(methods & stored, set())
+            self.assertEqual(methods & OF_BUILTINS, set())
+            for node in nodes(path, (ast.Name, ast.arg, ast.FunctionDef, ast.ClassDef, ast.Attribute, ast.keyword)):
+                names = {getattr(node, kind, None) for kind in ("id", "arg", "name", "attr")}
+                self.assertEqual(names & BARRED, set(), (path, names))
+            for node in nodes(path, ast.Attribute):
+                if node.attr.startswith("__"):
+                    self.assertIn(ast.unparse(node), ("self.__class__", "self.__class__.__name__", "super().__init__"))
+        self.assertEqual(properties & stored, set())
+        self.assertEqual((properties | stored) & OF_BUILTINS, set())
+
+    def test_imports_go_round_no_circle(self):
+        needs = {}
+        for path in FILES:
+            names = [node.module for node in nodes(path, ast.ImportFrom) if node.module.startswith("halfread.")]
+            needs[path.stem] = {name.split(".")[1] for name in names}
+        while needs:
+            free = [name for name, others in needs.items() if not others]
+            self.assertTrue(free, needs)
+            needs = {name: others - set(free) for name, others in needs.items() if name not in free}
+
+    def test_imports_are_used(self):
+        for path in FILES:
+            used = {node.id for node in nodes(path, ast.Name)}
+            for node in nodes(path, ast.ImportFrom):
+                self.assertLessEqual({name.name for name in node.names}, used, path)

@@ -1,0 +1,141 @@
+"""Crossings: bridges that are gone over tick by tick."""
+
+from halfread.bridges import (
+    check_beat, check_bridge, first_state, glances_of, looks_of, state_of, ticked, would_put, would_take,
+)
+from halfread.checks import check_number, is_whole
+from halfread.errors import Broken, NoLook, NothingDone, TooMuch
+
+MOST_LIMIT = 99
+
+
+class Crossing:
+    """Ticks of a bridge that are done one after the other, and can be taken back."""
+
+    def __init__(self, bridge):
+        check_bridge(bridge)
+        self._bridge = bridge
+        # What holds ahead of the first tick and behind each tick: state, put, taken, and what was done.
+        self._moments = [(first_state(bridge), 0, 0, None)]
+
+    @property
+    def bridge(self):
+        return self._bridge
+
+    @property
+    def state(self):
+        return self._moments[-1][0]
+
+    @property
+    def ticks(self):
+        return len(self._moments) - 1
+
+    @property
+    def put(self):
+        return self._moments[-1][1]
+
+    @property
+    def taken(self):
+        return self._moments[-1][2]
+
+    def tick(self, beat, look=None, glance=None):
+        """Do a tick; whether a thing was put, and whether one was taken."""
+        check_beat(beat)
+        draft = ticked(self._bridge, self.state, beat)
+        if isinstance(draft, str):
+            raise Broken(draft)
+        done = (would_put(self._bridge, self.state, beat), would_take(self._bridge, self.state, beat))
+        looked = read_now(looks_of(self._bridge, draft), look, draft[1])
+        glanced = read_now(glances_of(self._bridge, draft), glance, draft[0])
+        state = state_of(draft, looked, glanced)
+        moment = (state, self.put + int(done[0]), self.taken + int(done[1]), (beat, looked, glanced))
+        self._moments.append(moment)
+        return done
+
+    def __call__(self, beat):
+        return self.tick(beat)
+
+    def run(self, *beats):
+        """Do a tick for each beat, or none of them."""
+        return self.trial(lambda crossing: tuple([crossing.tick(beat) for beat in beats]))
+
+    def undo(self):
+        """Take back the last tick that is left."""
+        if self.ticks == 0:
+            raise NothingDone("there is no tick to take back")
+        self._moments.pop()
+
+    def trial(self, task):
+        """Call task with the crossing, and take back all that it did if it fails."""
+        moments = list(self._moments)
+        try:
+            told = task(self)
+            moments = self._moments
+        finally:
+            self._moments = moments
+        return told
+
+    def _likeness(self):
+        """What makes crossings equal."""
+        return [self.__class__.__name__, self.bridge, self.state, self.put, self.taken]
+
+    def __len__(self):
+        return len(range(self.put - self.taken))
+
+    def __contains__(self, x):
+        return is_whole(x) and self.taken <= x < self.put
+
+    def __eq__(self, other):
+        return isinstance(other, Crossing) and self._likeness() == other._likeness()
+
+    def __repr__(self):
+        return "".join([self.__class__.__name__, f"({self.ticks} ticks, {len(self)} inside)"])
+
+
+def read_now(told, read, count):
+    """What is read in a tick: what is said to be, if it is told; or else what the counter has come to."""
+    if read is None:
+        return count if told else None
+    if not is_whole(read) or read not in told:
+        raise NoLook("one of the things that may be read in this tick is required")
+    return read
+
+
+class Limited(Crossing):
+    """A crossing in which only so many things are put."""
+
+    def __init__(self, bridge, limit):
+        super().__init__(bridge)
+        check_number(limit, 1, MOST_LIMIT)
+        self.limit = limit
+
+    def tick(self, beat, look=None, glance=None):
+        """Do a tick in which no thing is put beyond the limit."""
+        check_beat(beat)
+        if self.put >= self.limit and would_put(self.bridge, self.state, beat):
+            raise TooMuch(f"{self.limit} things are put already")
+        return super().tick(beat, look, glance)
+
+    def _likeness(self):
+        return [*super()._likeness(), self.limit]
+
+
+class Logged(Crossing):
+    """A crossing that tells what was done in its ticks."""
+
+    def __init__(self, bridge):
+        super().__init__(bridge)
+
+    @property
+    def log(self):
+        return tuple([done for _, _, _, done in self._moments[1:]])
+
+    def _likeness(self):
+        return [*super()._likeness(), self.log]
+
+
+class LimitedLogged(Limited, Logged):
+    """A crossing with a limit that tells what was done in its ticks."""
+
+    def __init__(self, bridge, limit):
+        super().__init__(bridge, limit)
