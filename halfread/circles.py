@@ -7,9 +7,8 @@ for each point the place of its fan in this list, and its weight. A mean is a fr
 from math import gcd
 
 
-def circles_of(picks):
-    """The circles that come of going from each point to the one picked for it; -1 stands for none."""
-    circles = []
+def circle_in(picks):
+    """A circle that comes of going from each point to the one picked for it, if there is one; -1 stands for none."""
     walked_from = [-1] * len(picks)
     for start in range(len(picks)):
         at = start
@@ -17,8 +16,8 @@ def circles_of(picks):
             walked_from[at] = start
             at = picks[at]
         if at >= 0 and walked_from[at] == start:
-            circles.append(circle_at(picks, at))
-    return circles
+            return circle_at(picks, at)
+    return []
 
 
 def circle_at(picks, start):
@@ -34,16 +33,6 @@ def mean_of(circle, weights):
     total = sum([weights[point] for point in circle])
     common = gcd(total, len(circle))
     return (total // common, len(circle) // common)
-
-
-def least_of(circles, weights):
-    """The mean of the first circle whose mean is the least, and this circle."""
-    best, least = circles[0], mean_of(circles[0], weights)
-    for circle in circles[1:]:
-        mean = mean_of(circle, weights)
-        if mean[0] * least[1] < least[0] * mean[1]:
-            best, least = circle, mean
-    return least, best
 
 
 def users_of(fans, fan_at):
@@ -70,7 +59,7 @@ def lower_all(fans, users, costs, values, picks):
 
 
 def settle(fans, fan_at, weights, mean):
-    """Some circles with means below this one, if there are any; and values that show it if there are none.
+    """A circle with a mean below this one, if there is any, or an empty list; and values that show that there is none.
 
     They do so by this: the value of a point is at most its cost and the value of each point that it may go on to.
     """
@@ -81,23 +70,24 @@ def settle(fans, fan_at, weights, mean):
     picks = [-1] * len(costs)
     while lower_all(fans, users, costs, values, picks):
         # Only a circle of costs below 0 in all lets a value be lowered by what it was itself.
-        circles = circles_of(picks)
-        if circles:
-            return circles, values
+        circle = circle_in(picks)
+        if circle:
+            return circle, values
     return [], values
 
 
 def least_circle(fans, fan_at, weights):
     """The least mean, a circle that has it, and values that show that none is less."""
-    circles = circles_of([fans[fan][0] for fan in fan_at])
-    least, best, values = (0, 1), [], []
-    while circles:
-        least, best = least_of(circles, weights)
-        circles, values = settle(fans, fan_at, weights, least)
-    return least, best, values
+    circle = circle_in([fans[fan][0] for fan in fan_at])
+    while True:
+        mean = mean_of(circle, weights)
+        less, values = settle(fans, fan_at, weights, mean)
+        if not less:
+            return mean, circle, values
+        circle = less
 
 
 def is_least(fans, fan_at, weights, mean):
     """Whether no circle has a mean below this one."""
-    circles, _ = settle(fans, fan_at, weights, mean)
-    return circles == []
+    circle, _ = settle(fans, fan_at, weights, mean)
+    return circle == []

@@ -85,8 +85,9 @@ def shows_slowest(bridge, lap, thing):
     takes = taken_at(bridge, lap, course)
     ahead = walked(bridge, course, 0, way)
     around = walked(bridge, course, len(ahead) - 1, circle)
-    if not ahead or not around or ahead[0] != 0 or ahead[-1] != around[0] or len(around) % len(lap) != 0:
+    if not ahead or not around or ahead[0] != 0 or ahead[-1] != around[0]:
         return False
+    # Pairs have their places, so that only whole laps lead back to the first one.
     if around[0] not in fan_of(course, around[-1]) or not are_whole(speed):
         return False
     return mean_of(around, takes) == speed and are_prices(bridge, course, takes, speed, prices)

@@ -509,10 +509,11 @@ class RefusalsTest(unittest.TestCase):
 
 
 class CirclesTest(unittest.TestCase):
-    def test_circles_of_what_is_picked(self):
-        self.assertEqual(circles.circles_of([-1, 0, 1]), [])
-        self.assertEqual(circles.circles_of([1, 2, 0, 3, 2]), [[0, 1, 2], [3]])
-        self.assertEqual(circles.circles_of([1, 2, 3, 1]), [[1, 2, 3]])
+    def test_circle_in_what_is_picked(self):
+        self.assertEqual(circles.circle_in([-1, 0, 1]), [])
+        self.assertEqual(circles.circle_in([3, 2, 1, -1]), [1, 2])
+        self.assertEqual(circles.circle_in([1, 2, 3, 1]), [1, 2, 3])
+        self.assertEqual(circles.circle_in([-1, 0, 2]), [2])
 
     def test_against_karps_theorem(self):
         source = random.Random(5)

@@ -49,8 +49,9 @@ class InterfaceTest(unittest.TestCase):
         for bridge in no_bridges():
             with self.assertRaises(NoBridge):
                 verdict(bridge)
-            with self.assertRaises(NoBridge):
-                shows_verdict(bridge, ("safe", ()))
+            for thing in (None, ("safe", ()), ("broken", ()), bridge):
+                with self.assertRaises(NoBridge):
+                    shows_verdict(bridge, thing)
 
 
 class VerdictTest(unittest.TestCase):
@@ -68,6 +69,20 @@ class VerdictTest(unittest.TestCase):
             ((0, 2), "empty"),
         )
         self.assertTrue(same(verdict(Bridge(PLAIN, 1, 1, 1, 2)), ("broken", run)))
+
+    def test_beats_of_one_clock_alone(self):
+        # Who sees the other later waits for the next beat of its own, and that of one clock alone is the smallest one.
+        beats = {}
+        for numbers in ((1, 1, 2, 2), (1, 2, 1, 2), (1, 2, 2, 2), (1, 3, 1, 2)):
+            told = verdict(Bridge(PLAIN, *numbers))
+            self.assertTrue(same(told, verdict_of(Bridge(PLAIN, *numbers))[0]))
+            beats[numbers] = [beat for beat, _ in told[1]]
+        self.assertEqual(beats, {
+            (1, 1, 2, 2): [(2, 1), (0, 1), (1, 2), (2, 1), (0, 1), (0, 2), (0, 2)],
+            (1, 2, 1, 2): [(2, 1), (1, 2), (1, 0), (2, 1), (0, 2), (0, 2)],
+            (1, 2, 2, 2): [(2, 1), (0, 1), (1, 2), (1, 0), (2, 1), (0, 1), (0, 2), (0, 2)],
+            (1, 3, 1, 2): [(2, 1), (1, 2), (1, 0), (1, 0), (2, 1), (0, 2), (0, 2)],
+        })
 
     def test_against_the_words_of_the_document(self):
         kinds = {"safe": 0, "broken": 0, "many": 0}
