@@ -80,7 +80,7 @@ class Crossing:
         return [self.__class__.__name__, self.bridge, self.state, self.put, self.taken]
 
     def __len__(self):
-        return len(range(self.put - self.taken))
+        return len(list(range(self.put - self.taken)))
 
     def __contains__(self, x):
         return is_whole(x) and self.taken <= x < self.put

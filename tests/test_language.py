@@ -121,6 +121,18 @@ class LanguageTest(unittest.TestCase):
         self.assertEqual(properties & stored, set())
         self.assertEqual((properties | stored) & OF_BUILTINS, set())
 
+    def test_lengths_are_those_of_what_is_held(self):
+        # Behind __len__ no length of a range is told: it is one of a list or a tuple.
+        many = 0
+        for path in FILES:
+            for node in nodes(path, ast.FunctionDef):
+                if node.name == "__len__":
+                    many += 1
+                    for row in [row for row in ast.walk(node) if isinstance(row, ast.Return)]:
+                        self.assertEqual(ast.unparse(row.value.func), "len", path)
+                        self.assertFalse(ast.unparse(row.value.args[0]).startswith("range("), path)
+        self.assertEqual(many, 2)
+
     def test_imports_go_round_no_circle(self):
         needs = {}
         for path in FILES:
