@@ -1,13 +1,16 @@
 """Bridges: queues between a writer and a reader who see each other's counter late."""
 
-from halfread.checks import are_between, check_number
+from halfread.checks import check_number
 from halfread.codes import check_code
 from halfread.errors import NoBeat, NoBridge, NoState
 from halfread.readings import values_told
+from halfread.sides import sides_of
 
 MOST_LATE = 3
 MOST_SLOW = 3
-NO_BEAT = -1
+BEATS = {
+    (0, 1): True, (0, 2): True, (1, 0): True, (1, 1): True, (1, 2): True, (2, 0): True, (2, 1): True, (2, 2): True,
+}
 
 
 class Bridge:
@@ -23,7 +26,11 @@ class Bridge:
         self._ahead = ahead
         self._behind = behind
         self._slow = slow
-        self._told = [values_told(code, span) for span in range(slow + 1)]
+        self._size = len(code)
+        self.told = values_told(code, slow)
+        # What is worked out for many states at once is kept: the sides, and what comes up by the last lap.
+        self.sides = ()
+        self.courses = {}
 
     @property
     def code(self):
@@ -46,10 +53,11 @@ class Bridge:
         return self._slow
 
     def __call__(self, state, beat):
-        check_state(self, state)
-        check_beat(beat)
-        draft = ticked(self, state, beat)
-        return draft if isinstance(draft, str) else coming(self, draft)
+        if not has_form(self, state):
+            raise NoState("a state of the bridge is required")
+        if not is_beat(beat):
+            raise NoBeat("a beat of at least one clock is required")
+        return after(self, state, beat)
 
     def __eq__(self, other):
         return isinstance(other, Bridge) and numbers_and_code(self) == numbers_and_code(other)
@@ -82,7 +90,13 @@ def check_bridge(bridge):
 
 def is_beat(thing):
     """Whether any value is a beat."""
-    return are_between(thing, 2, 0, 2) and thing != (0, 0)
+    if not isinstance(thing, tuple) or len(thing) != 2:
+        return False
+    writing, reading = thing
+    if not isinstance(writing, int) or writing is True or writing is False:
+        return False
+    # Only what has the right kinds can be looked up, since True and 1 are the same key.
+    return isinstance(reading, int) and reading is not True and reading is not False and thing in BEATS
 
 
 def check_beat(beat):
@@ -95,19 +109,28 @@ def has_form(bridge, thing):
     """Whether any value has the form of a state of the bridge."""
     if not isinstance(thing, tuple) or len(thing) != 6:
         return False
-    last = len(bridge.code) - 1
     put, taken, looks, glances, puts, takes = thing
-    if not are_between((put, taken), 2, 0, last):
+    if not isinstance(looks, tuple) or not isinstance(glances, tuple):
         return False
-    if not are_between(looks, bridge.ahead, -1, last) or not are_between(glances, bridge.behind, -1, last):
+    if len(looks) != bridge._ahead or len(glances) != bridge._behind:
         return False
-    return are_between(puts, bridge.slow - 1, 0, 1) and are_between(takes, bridge.slow - 1, 0, 1)
+    size = bridge._size
+    for part in (put, taken, *looks, *glances):
+        if not isinstance(part, int) or part is True or part is False or part < -1 or part >= size:
+            return False
+    if put < 0 or taken < 0:
+        return False
+    return puts == takes == () if bridge._slow == 1 else are_steps(bridge, puts) and are_steps(bridge, takes)
 
 
-def check_state(bridge, state):
-    """Refuse what is no state of the bridge."""
-    if not has_form(bridge, state):
-        raise NoState("a state of the bridge is required")
+def are_steps(bridge, thing):
+    """Whether any value tells in which of the last ticks a counter stepped."""
+    if not isinstance(thing, tuple) or len(thing) != bridge._slow - 1:
+        return False
+    for part in thing:
+        if not isinstance(part, int) or part is True or part is False or part < 0 or part > 1:
+            return False
+    return True
 
 
 def is_state(bridge, thing):
@@ -123,80 +146,69 @@ def first_state(bridge):
     return (0, 0, (0,) * bridge.ahead, (0,) * bridge.behind, recent, recent)
 
 
-def would_put(bridge, state, beat):
-    """Whether the writer puts a thing, by what it has read alone."""
-    put, look = state[0], state[2][-1]
-    return beat[0] == 2 and look >= 0 and (put - look) % len(bridge.code) < bridge.depth
+def fronted(told, seen):
+    """What has been read, with each thing that may be read at its front, and without its last part."""
+    kept = seen[:-1]
+    return [(value, *kept) for value in told]
 
 
-def would_take(bridge, state, beat):
-    """Whether the reader takes a thing, by what it has read alone."""
-    taken, glance = state[1], state[3][-1]
-    return beat[1] == 2 and glance >= 0 and 1 <= (glance - taken) % len(bridge.code) <= bridge.depth
-
-
-def breaks(bridge, state, putting, taking):
-    """Which way a tick breaks the bridge; an empty text if it does not."""
-    put, taken = state[:2]
-    if putting and (put - taken) % len(bridge.code) >= bridge.depth:
-        return "full"
-    return "empty" if taking and put == taken else ""
-
-
-def ticked(bridge, state, beat):
-    """What a tick makes of a state before anything is read: "full", "empty" or a draft of the states that may come.
-
-    A draft is like a state, but what has been read lacks the part that is to come to the front, and it ends with the
-    numbers of steps of the reader's and of the writer's counter that can be seen half done, or NO_BEAT for who does
-    not read. So states that have equal drafts go on alike.
-    """
-    putting, taking = would_put(bridge, state, beat), would_take(bridge, state, beat)
-    kind = breaks(bridge, state, putting, taking)
-    if kind != "":
-        return kind
+def after(bridge, state, beat):
+    """What comes of a state by a beat: "full", "empty", or the ascending tuple of the states that may come."""
     put, taken, looks, glances, puts, takes = state
-    size = len(bridge.code)
-    puts, takes = (int(putting), *puts), (int(taking), *takes)
-    look_span, glance_span = NO_BEAT, NO_BEAT
-    if beat[0] > 0:
-        looks, look_span = looks[:-1], sum(takes)
-    if beat[1] > 0:
-        glances, glance_span = glances[:-1], sum(puts)
-    put, taken = (put + puts[0]) % size, (taken + takes[0]) % size
-    return (put, taken, looks, glances, puts[:-1], takes[:-1], look_span, glance_span)
+    writing, reading = beat
+    size, depth, told = bridge._size, bridge._depth, bridge.told
+    put_span = take_span = 0
+    if writing == 2 and looks[-1] >= 0 and (put - looks[-1]) % size < depth:
+        if (put - taken) % size >= depth:
+            return "full"
+        put_span = 1
+    if reading == 2 and glances[-1] >= 0 and 1 <= (glances[-1] - taken) % size <= depth:
+        if put == taken:
+            return "empty"
+        take_span = 1
+        taken = (taken + 1) % size
+    if put_span == 1:
+        put = (put + 1) % size
+    if bridge._slow > 1:
+        puts, takes = (put_span, *puts), (take_span, *takes)
+        put_span, take_span = sum(puts), sum(takes)
+        puts, takes = puts[:-1], takes[:-1]
+    all_looks = fronted(told[take_span][taken], looks) if writing > 0 else [looks]
+    all_glances = fronted(told[put_span][put], glances) if reading > 0 else [glances]
+    return tuple([(put, taken, look, glance, puts, takes) for look in all_looks for glance in all_glances])
 
 
-def told_of(bridge, count, span):
-    """What may be read of a counter that has come to count, the last span steps of it half done."""
-    return () if span == NO_BEAT else bridge._told[span][(count - span) % len(bridge.code)]
+def would_put(bridge, state):
+    """Whether the writer puts a thing if it wishes to."""
+    answer = after(bridge, state, (2, 0))
+    return answer == "full" or answer[0][0] != state[0]
 
 
-def looks_of(bridge, draft):
-    """What the writer may read; nothing if it has no beat."""
-    return told_of(bridge, draft[1], draft[6])
+def both_sides(bridge):
+    """The writer and the reader of the bridge in numbers, made when they are first asked for."""
+    if not bridge.sides:
+        bridge.sides = sides_of(bridge.told, bridge.depth, bridge.ahead, bridge.behind, bridge.slow)
+    return bridge.sides
 
 
-def glances_of(bridge, draft):
-    """What the reader may read; nothing if it has no beat."""
-    return told_of(bridge, draft[0], draft[7])
+def number_of(bridge, thing):
+    """The number of a state, the sum of its halves, or -1 if any value is none."""
+    if not has_form(bridge, thing):
+        return -1
+    writer, reader = both_sides(bridge)
+    put, taken, looks, glances, puts, takes = thing
+    writing, reading = (put, looks, puts), (taken, glances, takes)
+    # No half has the number 0, as what was read is never told by 0.
+    number = writer.numbers.get(writing) or writer.number_of(writing)
+    return number + (reader.numbers.get(reading) or reader.number_of(reading))
 
 
-def state_of(draft, look, glance):
-    """The state that comes of a draft by what is read; None stands for nothing."""
-    put, taken, looks, glances, puts, takes = draft[:6]
-    looks = looks if look is None else (look, *looks)
-    glances = glances if glance is None else (glance, *glances)
-    return (put, taken, looks, glances, puts, takes)
-
-
-def fronted(told, kept):
-    """What has been read, with each thing that may be read at its front; as it is if nothing is read."""
-    return [(value, *kept) for value in told] if told else [kept]
-
-
-def coming(bridge, draft):
-    """The ascending tuple of the states that may come of a draft."""
-    put, taken, looks, glances, puts, takes = draft[:6]
-    after_looks = fronted(looks_of(bridge, draft), looks)
-    after_glances = fronted(glances_of(bridge, draft), glances)
-    return tuple([(put, taken, look, glance, puts, takes) for look in after_looks for glance in after_glances])
+def states_of(bridge, numbers):
+    """The states with these numbers."""
+    writer, reader = both_sides(bridge)
+    looking = writer.halves_of([number & writer.half for number in numbers])
+    glancing = reader.halves_of([number & reader.half for number in numbers])
+    return tuple([
+        (put, taken, looks, glances, puts, takes)
+        for (put, looks, puts), (taken, glances, takes) in zip(looking, glancing)
+    ])

@@ -10,7 +10,7 @@ def is_whole(thing):
 
 def is_between(thing, low, high):
     """Whether any value is an integer from low to high."""
-    return is_whole(thing) and low <= thing <= high
+    return isinstance(thing, int) and not isinstance(thing, bool) and low <= thing <= high
 
 
 def are_between(thing, many, low, high):

@@ -15,6 +15,8 @@ class Code:
             raise NoWords("2 to 16 different words of the same length are required")
         self._words = words
         self._numbers = {word: value for value, word in enumerate(words)}
+        # What may be read in windows that were asked for, by value and span.
+        self.windows = {}
 
     @property
     def words(self):
@@ -89,7 +91,7 @@ def check_code(code):
 
 def check_value(code, value):
     """Refuse what is no value of the code."""
-    if not is_between(value, 0, len(code) - 1):
+    if not is_between(value, 0, len(code.words) - 1):
         raise NoValue("a value of the code is required")
 
 

@@ -1,69 +1,192 @@
-"""Courses: all that comes up from the first state of a bridge when certain beats may come at each turn."""
+"""Courses: all that comes up from the first state of a bridge when the beats of a lap come again and again."""
 
-from halfread.bridges import coming, first_state, ticked
+from halfread.circles import least_circle
 from halfread.errors import TooMany
 
 MOST_PAIRS = 3000
 
 
-class Course:
-    """The pairs (place, state) that come up, numbered in the order in which they are found.
+class Leads:
+    """What the drafts of one side lead to by a beat, as far as it was asked for.
 
-    The turns are tuples of the beats that may come at each place; behind the last place comes the first one. A fan is
-    the list of the numbers of all pairs that may come next by one beat; pairs that go on alike share one.
+    Found tells by the sum of a draft and the other side's window: the halves that may come of the draft, the moves,
+    that is the drafts to which these come in their turn, the moves without a step of the counter, and all moves turned.
     """
 
-    def __init__(self, bridge, turns):
-        self.queue = bridge
-        self.turns = turns
-        self.pairs = []
-        self.numbers = {}
-        self.sources = []
-        self.levels = []
+    def __init__(self, side, other, beat, turning):
+        self.side = side
+        self.window = other.window
+        self.beat = beat
+        self.turning = turning
+        self.fields = side.half + other.window
+        self.found = {}
+
+    def lead(self, both):
+        """What a draft leads to, of the sum of it and a window."""
+        side, beat = self.side, self.beat
+        known = side.moves[beat]
+        halves = side.arrivals(both, both & self.window)
+        moves = [known[half] if half in known else side.move(half, beat) for half in halves]
+        if len(moves) > 1 and side.late == 1:
+            # Here what was read is forgotten at once, and the same draft may come of much of it.
+            moves = list({move: True for move in moves})
+        stays = [move for move in moves if (move >> side.last_at) & 1 == 0] if beat == 2 else moves
+        turned = moves
+        if self.turning and side.gain > 0:
+            moves = [side.turned(move) if move >= side.gain else move for move in moves]
+        elif self.turning:
+            turned = [side.turned(move) for move in moves]
+        self.found[both] = (halves, moves, stays, turned)
+        return self.found[both]
+
+
+class Course:
+    """What comes up by the beats of a lap, from the first state on.
+
+    A node stands for all states that may come of two drafts: it is their sum, above it the number of things in the
+    queue behind their tick, and above that the place of the next beat in the lap. For each node there is the fan of the
+    numbers of the nodes that may come next. Pairs has the sums of a place and a state that come up, faults the numbers
+    of the nodes by some states of which the bridge can break. A course that is turning has everything turned round the
+    ring so that put is 0, and what comes up turned in several ways only once.
+    """
+
+    def __init__(self, writer, reader, lap, turning):
+        self.writer, self.reader = writer, reader
+        self.lap = lap
+        self.turning = turning
+        self.fills = writer.counts * writer.gain
+        self.place_at = self.fills.bit_length()
+        self.follows = [(place + 1) % len(lap) << self.place_at for place in range(len(lap))]
+        self.writing = self.leads_of(writer, reader, 0)
+        self.reading = self.leads_of(reader, writer, 1)
+        start = writer.move(writer.first, 0) + reader.move(reader.first, 0)
+        self.nodes = [start]
+        self.known = {start: 0}
         self.fans = []
-        self.drafts = {}
-        self.gates = []
+        self.pairs = {}
         self.faults = []
-        self.note((0, first_state(bridge)), None)
-        while len(self.gates) < len(self.pairs):
-            self.go_on(len(self.gates))
+        self.groups = []
+        self.gates = {}
+        self.least = ()
+        self.explore()
 
-    def note(self, pair, source):
-        """The number of a pair, which gets one if it is new; source is (number, beat) of what it comes from."""
-        if pair not in self.numbers:
-            if len(self.pairs) == MOST_PAIRS:
+    def leads_of(self, side, other, clock):
+        """The leads of a side for each place of the lap."""
+        leads = {}
+        for beat in self.lap:
+            if beat[clock] not in leads:
+                leads[beat[clock]] = Leads(side, other, beat[clock], self.turning)
+        return [leads[beat[clock]] for beat in self.lap]
+
+    def explore(self):
+        """Look at one node after the other until no new ones come up."""
+        nodes, fans, known, pairs = self.nodes, self.fans, self.known, self.pairs
+        puts, takes = [leads.found for leads in self.writing], [leads.found for leads in self.reading]
+        put_fields, take_fields = self.writing[0].fields, self.reading[0].fields
+        step, most, fills, place_at = self.writer.gain, self.writer.gain * self.writer.most, self.fills, self.place_at
+        while len(fans) < len(nodes):
+            node = nodes[len(fans)]
+            place, fill = node >> place_at, node & fills
+            put = puts[place].get(node & put_fields) or self.writing[place].lead(node & put_fields)
+            take = takes[place].get(node & take_fields) or self.reading[place].lead(node & take_fields)
+            halves, moves, stays, _ = put
+            others, rests, idles, turned = take
+            for half in halves:
+                base = (place << place_at) + half
+                for other in others:
+                    pairs[base + other] = True
+            if len(pairs) > MOST_PAIRS:
                 raise TooMany(MOST_PAIRS)
-            self.numbers[pair] = len(self.pairs)
-            self.pairs.append(pair)
-            self.sources.append(source)
-            self.levels.append(0 if source is None else self.levels[source[0]] + 1)
-        return self.numbers[pair]
+            if fill == most and len(stays) < len(moves):
+                self.faults.append(len(fans))
+                moves = stays
+            elif fill == 0 and len(idles) < len(rests):
+                self.faults.append(len(fans))
+                rests, turned = idles, self.turned_moves(idles)
+            fan = []
+            for move in moves:
+                base = self.follows[place] + fill + move
+                for rest in turned if move >= step else rests:
+                    after = known.get(base + rest)
+                    if after is None:
+                        after = known[base + rest] = len(nodes)
+                        nodes.append(base + rest)
+                    fan.append(after)
+            fans.append(fan)
 
-    def go_on(self, number):
-        """Look at each beat that may come at a pair, in order."""
-        place, state = self.pairs[number]
-        gates = []
-        for beat in self.turns[place]:
-            draft = ticked(self.queue, state, beat)
-            if isinstance(draft, str):
-                self.faults.append((number, beat, draft))
-            else:
-                gates.append(self.gate_of(draft, number, beat))
-        self.gates.append(gates)
+    def turned_moves(self, moves):
+        """The reader's moves as they come if the writer steps, too."""
+        return [self.reader.turned(move) for move in moves] if self.turning else moves
 
-    def gate_of(self, draft, number, beat):
-        """The place among the fans of what may come of a draft."""
-        after = (self.pairs[number][0] + 1) % len(self.turns)
-        if (after, draft) not in self.drafts:
-            self.drafts[(after, draft)] = len(self.fans)
-            self.fans.append([self.note((after, state), (number, beat)) for state in coming(self.queue, draft)])
-        return self.drafts[(after, draft)]
+    def pairs_at(self, number):
+        """The pairs of a node."""
+        node = self.nodes[number]
+        place = node >> self.place_at
+        halves = self.writing[place].found[node & self.writing[place].fields][0]
+        others = self.reading[place].found[node & self.reading[place].fields][0]
+        return [(place << self.place_at) + half + other for half in halves for other in others]
+
+    def list_pairs(self):
+        """Find the group of the pairs of each node, and the gate of each pair, the number of the node that comes next.
+
+        This is for courses that are not turning, in which nothing breaks.
+        """
+        known, gates, half, other = self.known, self.gates, self.writer.half, self.reader.half
+        for number, node in enumerate(self.nodes):
+            place = node >> self.place_at
+            writing, reading = self.lap[place]
+            puts, takes = self.writer.moves[writing], self.reader.moves[reading]
+            base = self.follows[place] + (node & self.fills)
+            group = self.pairs_at(number)
+            for pair in group:
+                if pair not in gates:
+                    gates[pair] = known[base + puts[pair & half] + takes[pair & other]]
+            self.groups.append(group)
+
+    def takes(self):
+        """For each node 1 if a thing is taken in the tick that leads to it, otherwise 0."""
+        return [(node >> self.reader.last_at) & 1 for node in self.nodes]
+
+    def slowest(self):
+        """The least mean of what is taken, a circle of nodes that has it, and values that show it."""
+        if self.least == ():
+            self.least = least_circle(self.fans, self.takes())
+        return self.least
+
+    def sources(self):
+        """For each node the number of the one from which it was found, a smaller one; 0 for the first one."""
+        sources = [-1] * len(self.nodes)
+        sources[0] = 0
+        for number, fan in enumerate(self.fans):
+            for after in fan:
+                if sources[after] < 0:
+                    sources[after] = number
+        return sources
+
+    def levels(self):
+        """For each node in how many ticks it comes up."""
+        levels = [0]
+        for source in self.sources()[1:]:
+            levels.append(levels[source] + 1)
+        return levels
 
     def way_to(self, number):
-        """The first of the shortest ways from the first pair to one, as (beat, number) for each pair behind it."""
-        way = []
-        while self.sources[number] is not None:
-            before, beat = self.sources[number]
-            way.append((beat, number))
-            number = before
+        """The numbers of the nodes on a shortest way from the first one to one."""
+        sources = self.sources()
+        way = [number]
+        while way[-1] > 0:
+            way.append(sources[way[-1]])
         return way[::-1]
+
+    def pairs_on(self, numbers):
+        """A pair of each node on a way but the last one, behind which the next node comes."""
+        return [
+            [pair for pair in self.groups[number] if self.gates[pair] == after][0]
+            for number, after in zip(numbers, numbers[1:])
+        ]
+
+
+def turned_course(writer, reader, lap):
+    """What comes up, turned, if there surely are not too many pairs when it is turned back; otherwise None."""
+    course = Course(writer, reader, lap, True)
+    return course if len(course.pairs) * writer.size <= MOST_PAIRS else None

@@ -1,8 +1,6 @@
 """Crossings: bridges that are gone over tick by tick."""
 
-from halfread.bridges import (
-    check_beat, check_bridge, first_state, glances_of, looks_of, state_of, ticked, would_put, would_take,
-)
+from halfread.bridges import after, check_beat, check_bridge, first_state, would_put
 from halfread.checks import check_number, is_whole
 from halfread.errors import Broken, NoLook, NothingDone, TooMuch
 
@@ -41,13 +39,13 @@ class Crossing:
     def tick(self, beat, look=None, glance=None):
         """Do a tick; whether a thing was put, and whether one was taken."""
         check_beat(beat)
-        draft = ticked(self._bridge, self.state, beat)
-        if isinstance(draft, str):
-            raise Broken(draft)
-        done = (would_put(self._bridge, self.state, beat), would_take(self._bridge, self.state, beat))
-        looked = read_now(looks_of(self._bridge, draft), look, draft[1])
-        glanced = read_now(glances_of(self._bridge, draft), glance, draft[0])
-        state = state_of(draft, looked, glanced)
+        answer = after(self._bridge, self.state, beat)
+        if isinstance(answer, str):
+            raise Broken(answer)
+        put, taken = answer[0][:2]
+        looked, glanced = read_now(beat[0], look, taken), read_now(beat[1], glance, put)
+        state = state_by(answer, looked, glanced)
+        done = (put != self.state[0], taken != self.state[1])
         moment = (state, self.put + int(done[0]), self.taken + int(done[1]), (beat, looked, glanced))
         self._moments.append(moment)
         return done
@@ -92,13 +90,21 @@ class Crossing:
         return "".join([self.__class__.__name__, f"({self.ticks} ticks, {len(self)} inside)"])
 
 
-def read_now(told, read, count):
-    """What is read in a tick: what is said to be, if it is told; or else what the counter has come to."""
+def read_now(beat, read, count):
+    """What is read by a beat: what is said to be, if it is told; or else what the counter has come to."""
     if read is None:
-        return count if told else None
-    if not is_whole(read) or read not in told:
+        return count if beat > 0 else None
+    if beat == 0 or not is_whole(read):
         raise NoLook("one of the things that may be read in this tick is required")
     return read
+
+
+def state_by(states, look, glance):
+    """The one of the states that may come that does so by what is read; None stands for nothing."""
+    for state in states:
+        if (look is None or state[2][0] == look) and (glance is None or state[3][0] == glance):
+            return state
+    raise NoLook("one of the things that may be read in this tick is required")
 
 
 class Limited(Crossing):
@@ -112,7 +118,7 @@ class Limited(Crossing):
     def tick(self, beat, look=None, glance=None):
         """Do a tick in which no thing is put beyond the limit."""
         check_beat(beat)
-        if self.put >= self.limit and would_put(self.bridge, self.state, beat):
+        if self.put >= self.limit and beat[0] == 2 and would_put(self.bridge, self.state):
             raise TooMuch(f"{self.limit} things are put already")
         return super().tick(beat, look, glance)
 

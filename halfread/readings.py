@@ -4,25 +4,33 @@ from halfread.checks import check_span, is_between
 from halfread.codes import check_code, check_value
 
 MOST_SPAN = 4
+# How many words have any bits at the places of the bits that are 1 in a number.
+MANY = (1, 2, 2, 4, 2, 4, 4, 8, 2, 4, 4, 8, 4, 8, 8, 16, 2, 4, 4, 8, 4, 8, 8, 16, 4, 8, 8, 16, 8, 16, 16, 32)
 
 
 def window_of(code, value, span):
-    """The values of the window, once for each step."""
-    return [(value + step) % len(code) for step in range(span + 1)]
+    """The words of the values of the window, once for each step."""
+    return (code.words * (span + 1))[value:value + span + 1]
 
 
 def mixtures(words):
     """The ascending tuple of the words that have each bit from one of these."""
     found = [()]
-    for place in range(len(words[0])):
-        bits = sorted({word[place] for word in words})
-        found = [(*start, bit) for start in found for bit in bits]
+    for bits in zip(*words):
+        if 0 not in bits:
+            found = [(*start, 1) for start in found]
+        elif 1 not in bits:
+            found = [(*start, 0) for start in found]
+        else:
+            found = [(*start, bit) for start in found for bit in (0, 1)]
     return tuple(found)
 
 
 def seen(code, value, span):
     """What readings returns, of arguments that are checked."""
-    return mixtures([code(at) for at in window_of(code, value, span)])
+    if (value, span) not in code.windows:
+        code.windows[(value, span)] = mixtures(window_of(code, value, span))
+    return code.windows[(value, span)]
 
 
 def mixes(code, value):
@@ -36,7 +44,7 @@ def changes(code, value):
     """The places that change when the counter steps from a value."""
     check_code(code)
     check_value(code, value)
-    old, new = [code(at) for at in window_of(code, value, 1)]
+    old, new = window_of(code, value, 1)
     return tuple([place for place in range(code.bits) if old[place] != new[place]])
 
 
@@ -155,12 +163,7 @@ def tolerance(code):
 def holes_at(numbers, value, span):
     """How many readings in the window of a value are no word of the code."""
     _, free = fixed_and_free(numbers, value, span)
-    many = 1
-    while free > 0:
-        # Each free bit doubles the readings; this takes the lowest one away.
-        free = free & (free - 1)
-        many = 2 * many
-    return many - len(seen_values(numbers, value, span))
+    return MANY[free] - len(seen_values(numbers, value, span))
 
 
 def holes(code, span):
@@ -171,11 +174,23 @@ def holes(code, span):
     return sum([holes_at(numbers, value, span) for value in range(len(numbers))])
 
 
-def values_told(code, span):
-    """For each value, the ascending tuple of what may be read in its window: values, and -1 for what is none."""
+def values_in(numbers, fixed, free):
+    """What may be read, of the bits that are 1 and those that differ: values, ahead of them -1 for anything else."""
+    either = fixed | free
+    found = [at for at, number in enumerate(numbers) if number | free == either]
+    return found if len(found) == MANY[free] else [-1, *found]
+
+
+def values_told(code, spans):
+    """What may be read in each window with a span from 0 on: by the span and the last value of the window."""
     numbers = numbers_of(code)
-    told = []
-    for value in range(len(numbers)):
-        noticed = [-1] if holes_at(numbers, value, span) > 0 else []
-        told.append((*noticed, *seen_values(numbers, value, span)))
+    size = len(numbers)
+    told = [[[value] for value in range(size)] for _ in range(spans + 1)]
+    for last in range(size):
+        both = either = numbers[last]
+        for span in range(1, spans + 1):
+            number = numbers[(last - span) % size]
+            both = both & number
+            either = either | number
+            told[span][last] = values_in(numbers, both, both ^ either)
     return told

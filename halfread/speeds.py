@@ -1,11 +1,15 @@
 """Speeds: how many things are taken per tick when the same beats come again and again."""
 
-from halfread.bridges import Bridge, check_bridge, check_late, check_slow, is_beat, is_state, would_take
-from halfread.checks import is_whole
-from halfread.circles import is_least, least_circle, mean_of
+from halfread.bridges import (
+    after, both_sides, check_bridge, check_late, check_slow, is_beat, number_of, states_of,
+)
+from halfread.checks import is_between, is_whole
+from halfread.circles import fraction, is_least, least_circle
 from halfread.codes import check_code
-from halfread.courses import Course
+from halfread.courses import Course, turned_course
 from halfread.errors import Broken, NoLap
+from halfread.readings import values_told
+from halfread.sides import goes_round, sides_of
 
 MOST_BEATS = 6
 
@@ -16,44 +20,53 @@ def check_lap(lap):
         raise NoLap("a tuple of one to six beats is required")
 
 
-def course_of(bridge, lap):
-    """What comes up by the beats of a lap."""
-    return Course(bridge, tuple([(beat,) for beat in lap]))
-
-
 def whole_course(bridge, lap):
-    """What comes up by the beats of a lap, none of which may break the bridge."""
-    course = course_of(bridge, lap)
-    if course.faults:
-        kind = first_kind(course)
-        raise Broken(kind)
+    """What comes up by the beats of a lap, none of which may break the bridge; that of the last lap is kept."""
+    if lap not in bridge.courses:
+        writer, reader = both_sides(bridge)
+        course = Course(writer, reader, lap, False)
+        if course.faults:
+            kind = first_kind(bridge, course)
+            raise Broken(kind)
+        bridge.courses = {lap: course}
+    return bridge.courses[lap]
+
+
+def listed_course(bridge, lap):
+    """As whole_course, with all pairs listed."""
+    course = whole_course(bridge, lap)
+    if not course.groups:
+        course.list_pairs()
     return course
 
 
-def first_kind(course):
+def quick_course(bridge, lap):
+    """What comes up by the beats of a lap, none of which may break the bridge; turned where that tells speeds, too."""
+    if lap not in bridge.courses and goes_round(bridge.told):
+        writer, reader = both_sides(bridge)
+        course = turned_course(writer, reader, lap)
+        if course is not None and not course.faults:
+            return course
+    return whole_course(bridge, lap)
+
+
+def first_kind(bridge, course):
     """How the bridge breaks in the earliest tick in which it can, in the smallest state."""
-    rows = [(course.levels[number], course.pairs[number], kind) for number, _, kind in course.faults]
-    return min(rows)[2]
-
-
-def fan_places(course):
-    """For each pair the place of its fan."""
-    return [gates[0] for gates in course.gates]
-
-
-def taken_at(bridge, lap, course):
-    """For each pair 1 if a thing is taken in the tick behind it, otherwise 0."""
-    return [int(would_take(bridge, state, lap[place])) for place, state in course.pairs]
+    levels = course.levels()
+    first = min([levels[number] for number in course.faults])
+    pairs = [pair for number in course.faults if levels[number] == first for pair in course.pairs_at(number)]
+    beat = course.lap[first % len(course.lap)]
+    answers = [after(bridge, state, beat) for state in states_of(bridge, sorted(pairs))]
+    return [answer for answer in answers if isinstance(answer, str)][0]
 
 
 def speeds(bridge, lap):
     """The least and the greatest number of things that are taken per tick in the long run."""
     check_bridge(bridge)
     check_lap(lap)
-    course = whole_course(bridge, lap)
-    takes = taken_at(bridge, lap, course)
-    least, _, _ = least_circle(course.fans, fan_places(course), takes)
-    greatest, _, _ = least_circle(course.fans, fan_places(course), [-taken for taken in takes])
+    course = quick_course(bridge, lap)
+    least, _, _ = course.slowest()
+    greatest, _, _ = least_circle(course.fans, [-taken for taken in course.takes()])
     return (least, (-greatest[0], greatest[1]))
 
 
@@ -61,54 +74,40 @@ def slowest(bridge, lap):
     """The least speed, with a way to a round that has it, that round, and prices that show that none is slower."""
     check_bridge(bridge)
     check_lap(lap)
-    course = whole_course(bridge, lap)
-    speed, circle, values = least_circle(course.fans, fan_places(course), taken_at(bridge, lap, course))
+    course = listed_course(bridge, lap)
+    speed, circle, values = course.slowest()
     start = circle.index(min(circle))
-    way = [0, *[number for _, number in course.way_to(circle[start])]]
-    prices = sorted([(*pair, -value) for pair, value in zip(course.pairs, values)])
-    return (speed, states_of(course, way), states_of(course, circle[start:] + circle[:start]), tuple(prices))
+    around = circle[start:] + circle[:start]
+    way = course.way_to(around[0])
+    states = states_of(bridge, course.pairs_on([*way, *around[1:], around[0]]))
+    return (speed, states[:len(way)], states[len(way) - 1:], prices_of(bridge, course, values))
 
 
-def states_of(course, numbers):
-    """The states of the pairs with these numbers."""
-    return tuple([course.pairs[number][1] for number in numbers])
+def prices_of(bridge, course, values):
+    """The prices that come of values for the nodes of a course."""
+    pairs = sorted(course.gates)
+    return tuple([
+        (pair >> course.place_at, state, -values[course.gates[pair]])
+        for pair, state in zip(pairs, states_of(bridge, pairs))
+    ])
 
 
 def shows_slowest(bridge, lap, thing):
     """Whether any value shows the least speed, as slowest does."""
     check_bridge(bridge)
     check_lap(lap)
-    course = whole_course(bridge, lap)
+    course = listed_course(bridge, lap)
     if not isinstance(thing, tuple) or len(thing) != 4:
         return False
     speed, way, circle, prices = thing
-    takes = taken_at(bridge, lap, course)
-    ahead = walked(bridge, course, 0, way)
-    around = walked(bridge, course, len(ahead) - 1, circle)
-    if not ahead or not around or ahead[0] != 0 or ahead[-1] != around[0]:
+    if not are_whole(speed) or not isinstance(way, tuple) or not isinstance(circle, tuple):
         return False
-    # Pairs have their places, so that only whole laps lead back to the first one.
-    if around[0] not in fan_of(course, around[-1]) or not are_whole(speed):
+    if way == () or circle == () or len(circle) % len(lap) > 0 or way[-1] != circle[0]:
         return False
-    return mean_of(around, takes) == speed and are_prices(bridge, course, takes, speed, prices)
-
-
-def fan_of(course, number):
-    """The numbers of the pairs that may come next."""
-    return course.fans[course.gates[number][0]]
-
-
-def walked(bridge, course, ticks, states):
-    """The numbers of the pairs that states make after so many ticks, each coming of the one before; or nothing."""
-    if not isinstance(states, tuple) or not all([is_state(bridge, state) for state in states]):
-        return []
-    numbers = []
-    for tick, state in enumerate(states):
-        number = course.numbers.get(((ticks + tick) % len(course.turns), state), -1)
-        if number < 0 or (tick > 0 and number not in fan_of(course, numbers[-1])):
-            return []
-        numbers.append(number)
-    return numbers
+    taken = taken_on(bridge, course, (*way, *circle[1:], circle[0]))
+    if taken == [] or fraction(sum(taken[-len(circle):]), len(circle)) != speed:
+        return False
+    return are_prices(bridge, course, speed, prices)
 
 
 def are_whole(things):
@@ -116,24 +115,47 @@ def are_whole(things):
     return isinstance(things, tuple) and all([is_whole(thing) for thing in things])
 
 
-def is_price(bridge, course, thing):
-    """Whether any value is (place, state, price) for a pair that comes up."""
-    if not isinstance(thing, tuple) or len(thing) != 3 or not is_whole(thing[0]) or not is_whole(thing[2]):
-        return False
-    return is_state(bridge, thing[1]) and thing[:2] in course.numbers
+def taken_on(bridge, course, states):
+    """How many things are taken in each tick on a way from the first state; nothing if states are no such way."""
+    takes = course.takes()
+    taken = []
+    number = 0
+    for state in states:
+        pair = pair_of(bridge, course, len(taken) % len(course.lap), state)
+        if pair not in course.groups[number]:
+            return []
+        number = course.gates[pair]
+        taken.append(takes[number])
+    return taken[:-1]
 
 
-def are_prices(bridge, course, takes, speed, things):
+def pair_of(bridge, course, place, state):
+    """The pair of a place and of any value, or -1 if that is no state."""
+    number = number_of(bridge, state)
+    return (place << course.place_at) + number if number >= 0 else -1
+
+
+def are_prices(bridge, course, speed, things):
     """Whether any value has a price for each pair, and no step by a beat makes the price rise too much."""
-    if not isinstance(things, tuple) or not all([is_price(bridge, course, thing) for thing in things]):
+    if not isinstance(things, tuple) or len(things) != len(course.gates):
         return False
-    prices = {course.numbers[thing[:2]]: thing[2] for thing in things}
-    if len(prices) != len(things) or len(prices) != len(course.pairs):
+    prices = {}
+    for thing in things:
+        if not isinstance(thing, tuple) or len(thing) != 3:
+            return False
+        place, state, price = thing
+        if not is_between(place, 0, len(course.lap) - 1) or not is_whole(price):
+            return False
+        prices[pair_of(bridge, course, place, state)] = price
+    # As many pairs as come up, each of which comes up, are all of them.
+    if len(prices) < len(things) or not all([pair in course.gates for pair in prices]):
         return False
     top, bottom = speed
-    highest = [max([prices[number] for number in fan]) for fan in course.fans]
-    fans = fan_places(course)
-    return all([highest[fans[at]] - prices[at] <= bottom * takes[at] - top for at in range(len(takes))])
+    most = [
+        bottom * taken - top - max([prices[pair] for pair in pairs])
+        for taken, pairs in zip(course.takes(), course.groups)
+    ]
+    return all([prices[pair] + most[course.gates[pair]] >= 0 for pair in prices])
 
 
 def least_depth(code, ahead, behind, lap, slow=1):
@@ -142,16 +164,21 @@ def least_depth(code, ahead, behind, lap, slow=1):
     check_late(ahead, behind)
     check_lap(lap)
     check_slow(slow)
+    told = values_told(code, slow)
+    turning = goes_round(told)
+    writer, reader = sides_of(told, 1, ahead, behind, slow)
     for depth in range(1, len(code)):
-        if is_deep_enough(Bridge(code, depth, ahead, behind, slow), lap):
+        writer.deepen(depth)
+        reader.deepen(depth)
+        if is_deep_enough(writer, reader, lap, turning):
             return depth
     return None
 
 
-def is_deep_enough(bridge, lap):
+def is_deep_enough(writer, reader, lap, turning):
     """Whether no beat of the lap can break the bridge, and its least speed is as great as the lap lets."""
-    course = course_of(bridge, lap)
-    if course.faults:
-        return False
+    course = turned_course(writer, reader, lap) if turning else None
+    if course is None:
+        course = Course(writer, reader, lap, False)
     wishes = min([len([beat for beat in lap if beat[side] == 2]) for side in (0, 1)])
-    return is_least(course.fans, fan_places(course), taken_at(bridge, lap, course), (wishes, len(lap)))
+    return not course.faults and is_least(course.fans, course.takes(), (wishes, len(lap)))

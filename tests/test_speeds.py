@@ -4,14 +4,14 @@ import math
 import random
 import unittest
 
-from halfread import circles, courses, speeds as module
+from halfread import circles, speeds as module
 from halfread.bridges import Bridge, first_state
 from halfread.codes import Code
 from halfread.errors import Broken, NoBridge, NoCode, NoLap, NoNumber, TooMany
 from halfread.making import single
 from halfread.speeds import least_depth, shows_slowest, slowest, speeds
 
-from plain import BEATS, arrows_of, broken_kind, extreme_mean, is_answer, speeds_of, state_zero
+from plain import BEATS, arrows_of, broken_kind, extreme_mean, is_answer, may_come, speeds_of, state_zero
 from support import (
     GRAY, JOHNSON, PLAIN, SIXTEEN, SIXTEEN_WIDE, THREE, TWO, no_beats, no_bridges, no_codes, no_integers,
     no_integers_from, same, some_bridges,
@@ -131,6 +131,12 @@ class SpeedsTest(unittest.TestCase):
                 self.assertEqual((math.gcd(top, bottom), math.gcd(high, low)), (1, 1))
 
 
+def kinds_that_come_up(bridge, lap):
+    """All ways in which the bridge can break by the beats of a lap, in whatever tick."""
+    answers = [may_come(bridge, state, lap[place]) for place, state in arrows_of(bridge, lap)]
+    return {answer for answer in answers if isinstance(answer, str)}
+
+
 class BrokenTest(unittest.TestCase):
     def test_worked_out_by_hand(self):
         # The reader takes the first thing, and then another one that never came.
@@ -153,8 +159,7 @@ class BrokenTest(unittest.TestCase):
             if answer[0] is Broken:
                 self.assertEqual(answer[1], broken_kind(bridge, lap), (bridge.code.words, bridge, lap))
                 kinds.add(answer[1])
-                course = courses.Course(bridge, tuple((beat,) for beat in lap))
-                both += len({kind for _, _, kind in course.faults}) == 2
+                both += len(kinds_that_come_up(bridge, lap)) == 2
                 self.assertEqual(answer, told(lambda: slowest(bridge, lap)))
                 self.assertEqual(answer, told(lambda: shows_slowest(bridge, lap, ())))
         self.assertEqual(kinds, {"full", "empty"})
@@ -387,10 +392,17 @@ class ShowsSlowestTest(unittest.TestCase):
             self.assertIs(shows_slowest(self.bridge, self.lap, (speed, states, circle, prices)), False)
         for states in [list(circle), None, "a", 0, circle[0], tuple(map(list, circle)), (circle,), (None,) * 3]:
             self.assertIs(shows_slowest(self.bridge, self.lap, (speed, way, states, prices)), False)
-        false = (False, *circle[0][1:])
-        self.assertEqual(false, circle[0])
-        self.assertFalse(self.shows(circle=(false, *circle[1:])))
-        self.assertFalse(self.shows(way=(false,)))
+        many = 0
+        for at, state in enumerate(circle):
+            for false in ((bool(state[0]), *state[1:]), (state[0], bool(state[1]), *state[2:]),
+                          (*state[:2], (bool(state[2][0]),), *state[3:]), (*state[:3], (bool(state[3][0]),), (), ())):
+                if false == state:
+                    many += 1
+                    self.assertFalse(self.shows(circle=circle[:at] + (false,) + circle[at + 1:]))
+        self.assertGreater(many, 5)
+        for false in ((False, *way[0][1:]), (0, False, *way[0][2:]), (0, 0, (False,), *way[0][3:])):
+            self.assertEqual(false, way[0])
+            self.assertFalse(self.shows(way=(false, *way[1:])))
 
     def test_any_value(self):
         for thing in [list(self.answer), self.answer[:3], (*self.answer, ()), self.answer[::-1], (self.answer,), (None,) * 4,
@@ -509,33 +521,40 @@ class RefusalsTest(unittest.TestCase):
 
 
 class CirclesTest(unittest.TestCase):
-    def test_circle_in_what_is_picked(self):
-        self.assertEqual(circles.circle_in([-1, 0, 1]), [])
-        self.assertEqual(circles.circle_in([3, 2, 1, -1]), [1, 2])
-        self.assertEqual(circles.circle_in([1, 2, 3, 1]), [1, 2, 3])
-        self.assertEqual(circles.circle_in([-1, 0, 2]), [2])
+    def test_circles_in_what_is_picked(self):
+        self.assertEqual(circles.circles_in([0]), [[0]])
+        self.assertEqual(circles.circles_in([3, 2, 1, 0]), [[0, 3], [1, 2]])
+        self.assertEqual(circles.circles_in([1, 2, 3, 1]), [[1, 2, 3]])
+        self.assertEqual(circles.circles_in([2, 0, 2, 2]), [[2]])
+
+    def test_the_circle_below_a_mean(self):
+        picks, weights = [1, 0, 3, 2, 4], [1, 0, 0, 0, 1]
+        self.assertEqual(circles.circle_below(picks, weights, (2, 1)), [2, 3])
+        self.assertEqual(circles.circle_below(picks, weights, (1, 1)), [2, 3])
+        self.assertEqual(circles.circle_below(picks, weights, (0, 1)), [])
+        self.assertEqual(circles.circle_below(picks, [1, 0, 1, 1, 1], (1, 2)), [])
+        self.assertEqual(circles.circle_below(picks, [1, 0, 1, 1, 1], (3, 5)), [0, 1])
 
     def test_against_karps_theorem(self):
         source = random.Random(5)
-        for _ in range(300):
+        for _ in range(400):
             many = source.randint(1, 9)
-            fans = [source.sample(range(many), source.randint(1, min(3, many))) for _ in range(source.randint(1, many))]
-            fan_at = [source.randrange(len(fans)) for _ in range(many)]
+            fans = [source.sample(range(many), source.randint(1, min(3, many))) for _ in range(many)]
             weights = [source.randint(-2, 2) for _ in range(many)]
-            arrows = {point: (weights[point], fans[fan_at[point]]) for point in range(many)}
+            arrows = {point: (weights[point], fans[point]) for point in range(many)}
             # A further point from which all others can be reached.
             arrows[-1] = (0, list(range(many)))
             right = extreme_mean(arrows, -1, 1)
-            least, circle, values = circles.least_circle(fans, fan_at, weights)
+            least, circle, values = circles.least_circle(fans, weights)
             self.assertTrue(same(least, (right.numerator, right.denominator)))
             self.assertEqual(sum(weights[point] for point in circle) * least[1], least[0] * len(circle))
             for one, other in zip(circle, circle[1:] + circle[:1]):
-                self.assertIn(other, fans[fan_at[one]])
+                self.assertIn(other, fans[one])
             for point in range(many):
                 cost = weights[point] * least[1] - least[0]
-                self.assertTrue(all(values[point] <= cost + values[other] for other in fans[fan_at[point]]))
+                self.assertTrue(all(values[point] <= cost + values[other] for other in fans[point]))
             for top in range(-6, 7):
-                self.assertIs(circles.is_least(fans, fan_at, weights, (top, 3)), top * least[1] <= least[0] * 3)
+                self.assertIs(circles.is_least(fans, weights, (top, 3)), top * least[1] <= least[0] * 3)
 
 
 class SameAnswersTest(unittest.TestCase):
