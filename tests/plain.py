@@ -6,6 +6,10 @@ They go over whole sets of states tick by tick, and keep whole runs where the pr
 import fractions
 import functools
 
+from halfread.bridges import Bridge
+from halfread.errors import TooMany
+from halfread.speeds import slowest
+
 from support import readings_of
 
 BEATS = [(writer, reader) for writer in range(3) for reader in range(3) if (writer, reader) != (0, 0)]
@@ -178,3 +182,24 @@ def is_answer(bridge, lap, answer):
     return all(
         table[other] - table[pair] <= bottom * taken - top for pair, (taken, after) in arrows.items() for other in after
     )
+
+
+def depth_of(code, ahead, behind, lap, slow=1):
+    """What least_depth returns, or TooMany and its limit."""
+    wishes = min(sum(beat[side] == 2 for beat in lap) for side in (0, 1))
+    for depth in range(1, len(code)):
+        bridge = Bridge(code, depth, ahead, behind, slow)
+        arrows = arrows_of(bridge, lap)
+        if len(arrows) > 3000:
+            return TooMany, 3000
+        if all(after for _, after in arrows.values()):
+            # Ways of all lengths take long; answers of the program are looked at step by step.
+            if len(arrows) < 120:
+                least = extreme_mean(arrows, (0, state_zero(bridge)), 1)
+            else:
+                answer = slowest(bridge, lap)
+                assert is_answer(bridge, lap, answer)
+                least = fractions.Fraction(*answer[0])
+            if least == fractions.Fraction(wishes, len(lap)):
+                return depth
+    return None

@@ -1,4 +1,3 @@
-import fractions
 import itertools
 import math
 import random
@@ -11,7 +10,7 @@ from halfread.errors import Broken, NoBridge, NoCode, NoLap, NoNumber, TooMany
 from halfread.making import single
 from halfread.speeds import least_depth, shows_slowest, slowest, speeds
 
-from plain import BEATS, arrows_of, broken_kind, extreme_mean, is_answer, may_come, speeds_of, state_zero
+from plain import BEATS, arrows_of, broken_kind, depth_of, extreme_mean, is_answer, may_come, speeds_of, state_zero
 from support import (
     GRAY, JOHNSON, PLAIN, SIXTEEN, SIXTEEN_WIDE, THREE, TWO, no_beats, no_bridges, no_codes, no_integers,
     no_integers_from, same, some_bridges,
@@ -452,30 +451,12 @@ class LeastDepthTest(unittest.TestCase):
         counts = {}
         for bridge, lap in some_laps(some_bridges(130, 41, 6), 42):
             code, ahead, behind, slow = bridge.code, bridge.ahead, bridge.behind, bridge.slow
-            right = self.depth_of(code, ahead, behind, lap, slow)
+            right = depth_of(code, ahead, behind, lap, slow)
             answer = told(lambda: least_depth(code, ahead, behind, lap, slow))
             self.assertTrue(same(answer, right) or answer == right == (TooMany, 3000), (code.words, bridge, lap, answer))
             counts[str(answer)] = counts.get(str(answer), 0) + 1
         self.assertTrue({"None", "1", "2"} <= set(counts), counts)
         self.assertGreater(len(counts), 4)
-
-    def depth_of(self, code, ahead, behind, lap, slow):
-        wishes = min(sum(beat[side] == 2 for beat in lap) for side in (0, 1))
-        for depth in range(1, len(code)):
-            bridge = Bridge(code, depth, ahead, behind, slow)
-            arrows = arrows_of(bridge, lap)
-            if len(arrows) > 3000:
-                return TooMany, 3000
-            if all(after for _, after in arrows.values()):
-                # Ways of all lengths take long; the program's own answers are shown above for larger ones.
-                if len(arrows) < 120:
-                    least = extreme_mean(arrows, (0, state_zero(bridge)), 1)
-                else:
-                    top, bottom = speeds(bridge, lap)[0]
-                    least = fractions.Fraction(top, bottom)
-                if least == fractions.Fraction(wishes, len(lap)):
-                    return depth
-        return None
 
 
 class RefusalsTest(unittest.TestCase):
