@@ -19,13 +19,19 @@ class Leads:
         self.beat = beat
         self.turning = turning
         self.fields = side.half + other.window
+        self.known = side.moves[beat]
         self.found = {}
 
     def lead(self, both):
         """What a draft leads to, of the sum of it and a window."""
-        side, beat = self.side, self.beat
-        known = side.moves[beat]
-        halves = side.arrivals(both, both & self.window)
+        side, beat, known = self.side, self.beat, self.known
+        half = both & side.half
+        if half & side.front > 0:
+            halves = [half]
+        else:
+            window = both & self.window
+            reads = side.reads[window] if window in side.reads else side.reads_in(window)
+            halves = [half + read for read in reads]
         moves = [known[half] if half in known else side.move(half, beat) for half in halves]
         if len(moves) > 1 and side.late == 1:
             # Here what was read is forgotten at once, and the same draft may come of much of it.
@@ -36,8 +42,9 @@ class Leads:
             moves = [side.turned(move) if move >= side.gain else move for move in moves]
         elif self.turning:
             turned = [side.turned(move) for move in moves]
-        self.found[both] = (halves, moves, stays, turned)
-        return self.found[both]
+        found = (halves, moves, stays, turned)
+        self.found[both] = found
+        return found
 
 
 class Course:
@@ -84,8 +91,9 @@ class Course:
         puts, takes = [leads.found for leads in self.writing], [leads.found for leads in self.reading]
         put_fields, take_fields = self.writing[0].fields, self.reading[0].fields
         step, most, fills, place_at = self.writer.gain, self.writer.gain * self.writer.most, self.fills, self.place_at
-        while len(fans) < len(nodes):
-            node = nodes[len(fans)]
+        number = 0
+        while number < len(nodes):
+            node = nodes[number]
             place, fill = node >> place_at, node & fills
             put = puts[place].get(node & put_fields) or self.writing[place].lead(node & put_fields)
             take = takes[place].get(node & take_fields) or self.reading[place].lead(node & take_fields)
@@ -98,21 +106,24 @@ class Course:
             if len(pairs) > MOST_PAIRS:
                 raise TooMany(MOST_PAIRS)
             if fill == most and len(stays) < len(moves):
-                self.faults.append(len(fans))
+                self.faults.append(number)
                 moves = stays
             elif fill == 0 and len(idles) < len(rests):
-                self.faults.append(len(fans))
+                self.faults.append(number)
                 rests, turned = idles, self.turned_moves(idles)
+            onward = self.follows[place] + fill
             fan = []
             for move in moves:
-                base = self.follows[place] + fill + move
+                base = onward + move
                 for rest in turned if move >= step else rests:
-                    after = known.get(base + rest)
+                    node = base + rest
+                    after = known.get(node)
                     if after is None:
-                        after = known[base + rest] = len(nodes)
-                        nodes.append(base + rest)
+                        after = known[node] = len(nodes)
+                        nodes.append(node)
                     fan.append(after)
             fans.append(fan)
+            number += 1
 
     def turned_moves(self, moves):
         """The reader's moves as they come if the writer steps, too."""

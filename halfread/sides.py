@@ -98,28 +98,27 @@ class Side:
         """The value of the side's counter in a half, a draft or a sum of these."""
         return (number >> self.count_at) & self.counts
 
-    def acts(self, number):
-        """Whether the side of a half puts or takes a thing if it wishes to."""
-        last = (number >> self.seen_at) & self.digits
-        if last < FIRST:
+    def acts(self, count, digit):
+        """Whether the side puts or takes a thing if it wishes to, by its counter and its last reading."""
+        ahead = (digit - FIRST - count) % self.size
+        if digit < FIRST:
             return False
-        ahead = (last - FIRST - self.count_of(number)) % self.size
         return -ahead % self.size < self.most if self.gain > 0 else 1 <= ahead <= self.most
 
     def move(self, number, beat):
         """The draft that a half comes to by a beat."""
         moves = self.moves[beat]
         if number not in moves:
-            moves[number] = self.ticked(number, beat, beat == 2 and self.acts(number))
+            moves[number] = self.ticked(number, beat)
         return moves[number]
 
-    def ticked(self, number, beat, acts):
-        """The draft that a half comes to by a beat if the side acts, or does not act."""
+    def ticked(self, number, beat):
+        """The draft that a half comes to by a beat, worked out."""
         count = (number >> self.count_at) & self.counts
         seen = (number >> self.seen_at) & self.seens
         steps = (number >> self.steps_at) & self.steps
         gain = 0
-        if acts:
+        if beat == 2 and self.acts(count, seen & self.digits):
             count = (count + 1) % self.size
             steps += 1 << self.past
             gain = self.gain

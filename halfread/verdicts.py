@@ -47,7 +47,8 @@ class Search:
     def ways_of(self, side, state, ways):
         """The drafts that a side's half of a state comes to by the beats."""
         half = state & side.half
-        ways[half] = [side.move(half, beat) for beat in ((0, 1, 2) if side.acts(half) else (0, 1))]
+        drafts = [side.move(half, beat) for beat in (0, 1, 2)]
+        ways[half] = drafts if drafts[2] != drafts[1] else drafts[:2]
         return ways[half]
 
     def beat_of(self, state, draft, other):

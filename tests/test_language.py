@@ -87,6 +87,25 @@ class LanguageTest(unittest.TestCase):
                     if isinstance(sign, (ast.Is, ast.IsNot)):
                         self.assertIn(ast.unparse(side), ("None", "True", "False"))
 
+    def test_calls_with_stars(self):
+        for path in FILES:
+            for node in nodes(path, ast.Call):
+                stars = [at for at, part in enumerate(node.args) if isinstance(part, ast.Starred)]
+                for part in node.args[min(stars, default=len(node.args)):]:
+                    value = part.value if isinstance(part, ast.Starred) else part
+                    self.assertIsInstance(value, (ast.Name, ast.Constant), (path, node.lineno))
+
+    def test_loops_do_not_change_what_they_go_over(self):
+        changing = {"append", "extend", "insert", "pop", "remove", "clear", "update", "setdefault"}
+        for path in FILES:
+            for loop in nodes(path, ast.For):
+                over = {ast.unparse(node) for node in ast.walk(loop.iter) if isinstance(node, (ast.Name, ast.Attribute))}
+                for node in [node for row in loop.body for node in ast.walk(row)]:
+                    if isinstance(node, ast.Call) and isinstance(node.func, ast.Attribute) and node.func.attr in changing:
+                        self.assertNotIn(ast.unparse(node.func.value), over, (path, node.lineno))
+                    if isinstance(node, ast.Subscript) and not isinstance(node.ctx, ast.Load):
+                        self.assertNotIn(ast.unparse(node.value), over, (path, node.lineno))
+
     def test_names(self):
         for path in FILES:
             for node in nodes(path, ast.Name):
