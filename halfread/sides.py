@@ -40,7 +40,7 @@ class Side:
         self.digits = filled(self.wide)
         self.seens = filled(self.wide * late)
         self.steps = filled(self.past)
-        # Whether there was a step in the last tick; where nothing else is told of steps, the span tells it.
+        # A draft tells here whether there was a step in its tick; where no steps are told, the span does.
         self.last_at = self.steps_at + self.past - 1 if self.past > 0 else self.span_at
         self.front_at = self.seen_at + self.wide * (late - 1)
         self.front = self.digits << self.front_at
@@ -169,8 +169,8 @@ def sides_of(told, depth, ahead, behind, slow):
     reader = Side(size, behind, slow, (taken_at, glances_at, 0, taken_span_at), -1 << fill_at)
     writer.look_at(told, reader)
     reader.look_at(told, writer)
-    for side in (writer, reader):
-        side.deepen(depth)
+    writer.deepen(depth)
+    reader.deepen(depth)
     return writer, reader
 
 

@@ -5,11 +5,12 @@ The counterparts follow the words of the document as directly as possible, over 
 
 import itertools
 import random
+import sys
 
 from halfread.bridges import Bridge
 from halfread.codes import Code
 from halfread.crossings import Crossing
-from halfread.errors import NoCode, ReadError, TooMany
+from halfread.errors import Broken, NoCode, ReadError, TooMany
 from halfread.making import single
 
 PLAIN = Code((0, 0), (0, 1), (1, 0), (1, 1))
@@ -104,6 +105,27 @@ def some_states(bridge, many, source):
          some(bridge.slow - 1, 0, 1))
         for _ in range(many)
     ]
+
+
+def answer_of(ask):
+    """What is returned, or the class of the exception and what it has."""
+    try:
+        return ask()
+    except TooMany as why:
+        return TooMany, why.limit
+    except Broken as why:
+        return Broken, why.kind
+
+
+def calls_of(ask):
+    """How many functions of Python are called."""
+    calls = []
+    sys.setprofile(lambda frame, event, arg: calls.append(event) if event == "call" else None)
+    try:
+        ask()
+    finally:
+        sys.setprofile(None)
+    return len(calls)
 
 
 # The counterparts.

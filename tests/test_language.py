@@ -120,6 +120,16 @@ class LanguageTest(unittest.TestCase):
                 for decorator in node.decorator_list:
                     self.assertIn(ast.unparse(decorator), ("property", "classmethod", "staticmethod"))
 
+    def test_local_names_are_no_imports_or_classes(self):
+        for path in FILES:
+            taken = {name.name for node in nodes(path, ast.ImportFrom) for name in node.names}
+            taken |= {node.name for node in nodes(path, ast.ClassDef)}
+            for function in nodes(path, ast.FunctionDef):
+                given = {node.arg for node in ast.walk(function) if isinstance(node, ast.arg)}
+                given |= {node.id for node in ast.walk(function)
+                          if isinstance(node, ast.Name) and isinstance(node.ctx, ast.Store)}
+                self.assertEqual(given & taken, set(), (path, function.name))
+
     def test_attributes_and_properties(self):
         properties, stored = set(), set()
         for path in FILES:

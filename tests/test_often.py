@@ -2,7 +2,6 @@
 
 import fractions
 import itertools
-import sys
 import unittest
 
 from halfread.bridges import Bridge, first_state, is_state
@@ -16,7 +15,7 @@ from halfread.verdicts import shows_verdict, verdict
 from plain import (
     BEATS, arrows_of, broken_kind, depth_of, is_answer, may_come, speeds_of, state_zero, verdict_of,
 )
-from support import GRAY, PLAIN, THREE, TWO, readings_of, same
+from support import GRAY, PLAIN, THREE, TWO, answer_of, calls_of, readings_of, same
 
 ALL = ((2, 2),)
 LAP = ((2, 2), (2, 1), (1, 2))
@@ -24,27 +23,6 @@ LAPS = (ALL, LAP, ((2, 1), (1, 2)), ((2, 0), (0, 2)), ((0, 2), (2, 2), (1, 1), (
 
 SIX = single(6, 3)
 EIGHT = single(8, 3)
-
-
-def answer_of(ask):
-    """What is returned, or the class of the exception and what it has."""
-    try:
-        return ask()
-    except TooMany as why:
-        return TooMany, why.limit
-    except Broken as why:
-        return Broken, why.kind
-
-
-def calls_of(ask):
-    """How many functions of Python are called."""
-    calls = []
-    sys.setprofile(lambda frame, event, arg: calls.append(event) if event == "call" else None)
-    try:
-        ask()
-    finally:
-        sys.setprofile(None)
-    return len(calls)
 
 
 def fresh(bridge):

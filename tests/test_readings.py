@@ -1,5 +1,4 @@
 import itertools
-import sys
 import unittest
 
 from halfread import readings as module
@@ -8,8 +7,8 @@ from halfread.errors import NoCode, NoSpan, NoValue
 from halfread.readings import changes, far_off, holes, is_single, mixes, off, readings, shows_off, tolerance
 
 from support import (
-    GRAY, JOHNSON, NAMED, PLAIN, SIXTEEN, SIXTEEN_GRAY, SIXTEEN_WIDE, THREE, TWO, TWO_WIDE, greatest_off, holes_of,
-    no_codes, no_integers, no_integers_from, off_readings, readings_of, same, some_codes, word_of,
+    GRAY, JOHNSON, NAMED, PLAIN, SIXTEEN, SIXTEEN_GRAY, SIXTEEN_WIDE, THREE, TWO, TWO_WIDE, calls_of, greatest_off,
+    holes_of, no_codes, no_integers, no_integers_from, off_readings, readings_of, same, some_codes, word_of,
 )
 
 CODES = NAMED + some_codes(60, 2)
@@ -212,17 +211,6 @@ class ShowsOffTest(unittest.TestCase):
 
 def wrong_for_none():
     return [thing for thing in no_integers() if thing is not None] + [0, 1, (0, (0, 0)), (1, (0, 0)), (None,), [None]]
-
-
-def calls_of(ask):
-    """How many calls of Python functions it takes to ask."""
-    calls = []
-    sys.setprofile(lambda frame, event, arg: calls.append(event) if event == "call" else None)
-    try:
-        ask()
-    finally:
-        sys.setprofile(None)
-    return len(calls)
 
 
 class AskedOftenTest(unittest.TestCase):

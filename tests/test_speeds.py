@@ -12,7 +12,7 @@ from halfread.speeds import least_depth, shows_slowest, slowest, speeds
 
 from plain import BEATS, arrows_of, broken_kind, depth_of, extreme_mean, is_answer, may_come, speeds_of, state_zero
 from support import (
-    GRAY, JOHNSON, PLAIN, SIXTEEN, SIXTEEN_WIDE, THREE, TWO, no_beats, no_bridges, no_codes, no_integers,
+    GRAY, JOHNSON, PLAIN, SIXTEEN, SIXTEEN_WIDE, THREE, TWO, answer_of, no_beats, no_bridges, no_codes, no_integers,
     no_integers_from, same, some_bridges,
 )
 
@@ -50,16 +50,6 @@ def some_laps(bridges, seed):
     source = random.Random(seed)
     return [(bridge, tuple(source.choice(BEATS) for _ in range(source.choice([1, 1, 2, 2, 3, 4, 6]))))
             for bridge in bridges]
-
-
-def told(ask):
-    """What is returned, or the class of the exception and what it has."""
-    try:
-        return ask()
-    except TooMany as why:
-        return TooMany, why.limit
-    except Broken as why:
-        return Broken, why.kind
 
 
 class InterfaceTest(unittest.TestCase):
@@ -108,7 +98,7 @@ class SpeedsTest(unittest.TestCase):
     def test_against_the_words_of_the_document(self):
         counts = {"same": 0, "differ": 0, "full": 0, "empty": 0, "many": 0}
         for bridge, lap in some_laps(some_bridges(320, 21, 6), 22):
-            answer = told(lambda: speeds(bridge, lap))
+            answer = answer_of(lambda: speeds(bridge, lap))
             if answer[0] is TooMany:
                 counts["many"] += 1
             elif answer[0] is Broken:
@@ -121,7 +111,7 @@ class SpeedsTest(unittest.TestCase):
 
     def test_least_is_not_greater(self):
         for bridge, lap in some_laps(some_bridges(100, 23), 24):
-            answer = told(lambda: speeds(bridge, lap))
+            answer = answer_of(lambda: speeds(bridge, lap))
             if isinstance(answer[0], tuple):
                 (top, bottom), (high, low) = answer
                 self.assertLessEqual(top * low, high * bottom)
@@ -154,20 +144,20 @@ class BrokenTest(unittest.TestCase):
     def test_the_earliest_tick_and_the_smallest_state(self):
         kinds, both = set(), 0
         for bridge, lap in some_laps(some_bridges(700, 25, 8), 26):
-            answer = told(lambda: speeds(bridge, lap))
+            answer = answer_of(lambda: speeds(bridge, lap))
             if answer[0] is Broken:
                 self.assertEqual(answer[1], broken_kind(bridge, lap), (bridge.code.words, bridge, lap))
                 kinds.add(answer[1])
                 both += len(kinds_that_come_up(bridge, lap)) == 2
-                self.assertEqual(answer, told(lambda: slowest(bridge, lap)))
-                self.assertEqual(answer, told(lambda: shows_slowest(bridge, lap, ())))
+                self.assertEqual(answer, answer_of(lambda: slowest(bridge, lap)))
+                self.assertEqual(answer, answer_of(lambda: shows_slowest(bridge, lap, ())))
         self.assertEqual(kinds, {"full", "empty"})
         self.assertGreater(both, 5)
 
     def test_with_slow_1_nothing_breaks(self):
         for bridge, lap in some_laps(some_bridges(100, 27, 9), 28):
             bridge = Bridge(bridge.code, bridge.depth, bridge.ahead, bridge.behind)
-            self.assertIsNot(told(lambda: speeds(bridge, lap))[0], Broken)
+            self.assertIsNot(answer_of(lambda: speeds(bridge, lap))[0], Broken)
 
 
 class TooManyTest(unittest.TestCase):
@@ -176,7 +166,7 @@ class TooManyTest(unittest.TestCase):
             bridge = Bridge(code_of(text), *numbers)
             for ask in (lambda: speeds(bridge, lap), lambda: slowest(bridge, lap),
                         lambda: shows_slowest(bridge, lap, None)):
-                answer = told(ask)
+                answer = answer_of(ask)
                 if many == 3001:
                     self.assertTrue(same(answer, (TooMany, 3000)))
                 elif breaks:
@@ -220,7 +210,7 @@ class SlowestTest(unittest.TestCase):
 
     def test_kinds(self):
         for bridge, lap in some_laps(some_bridges(60, 31, 8), 32):
-            answer = told(lambda: slowest(bridge, lap))
+            answer = answer_of(lambda: slowest(bridge, lap))
             if isinstance(answer[0], tuple):
                 speed, way, circle, prices = answer
                 self.assertTrue(all(isinstance(part, tuple) for part in (answer, speed, way, circle, prices)))
@@ -231,9 +221,9 @@ class SlowestTest(unittest.TestCase):
     def test_against_the_words_of_the_document(self):
         many = 0
         for bridge, lap in some_laps(some_bridges(300, 33, 8), 34):
-            answer = told(lambda: slowest(bridge, lap))
+            answer = answer_of(lambda: slowest(bridge, lap))
             if answer[0] in (TooMany, Broken):
-                self.assertEqual(answer, told(lambda: speeds(bridge, lap)))
+                self.assertEqual(answer, answer_of(lambda: speeds(bridge, lap)))
                 continue
             self.assertTrue(is_answer(bridge, lap, answer), (bridge.code.words, bridge, lap))
             self.assertTrue(same(answer[0], speeds(bridge, lap)[0]))
@@ -343,7 +333,7 @@ class ShowsSlowestTest(unittest.TestCase):
         # The slow round lies behind some ticks, so that each state of the way counts.
         found = 0
         for bridge, lap in some_laps(some_bridges(200, 35, 8), 36):
-            answer = told(lambda: slowest(bridge, lap))
+            answer = answer_of(lambda: slowest(bridge, lap))
             if answer[0] in (TooMany, Broken) or len(answer[1]) < 3:
                 continue
             found += 1
@@ -421,7 +411,7 @@ class LeastDepthTest(unittest.TestCase):
         for code in (TWO, GRAY, JOHNSON, single(8, 3), single(10, 4), single(12, 4), single(16, 4)):
             for ahead, behind in itertools.product((1, 2, 3), repeat=2):
                 depth = ahead + behind + 2
-                answer = told(lambda: least_depth(code, ahead, behind, ALL))
+                answer = answer_of(lambda: least_depth(code, ahead, behind, ALL))
                 if answer != (TooMany, 3000):
                     self.assertTrue(same(answer, depth if depth < len(code) else None))
                     many += 1
@@ -436,10 +426,10 @@ class LeastDepthTest(unittest.TestCase):
     def test_what_breaks_is_passed_over(self):
         # The greatest depth breaks with slow 2, and less is not enough.
         for code in (GRAY, JOHNSON):
-            self.assertIs(told(lambda: speeds(Bridge(code, len(code) - 1, 1, 1, 2), ALL))[0], Broken)
+            self.assertIs(answer_of(lambda: speeds(Bridge(code, len(code) - 1, 1, 1, 2), ALL))[0], Broken)
             self.assertIsNone(least_depth(code, 1, 1, ALL, 2))
         for depth in (1, 2, 3):
-            self.assertIs(told(lambda: speeds(Bridge(PLAIN, depth, 1, 1, 2), ALL))[0], Broken)
+            self.assertIs(answer_of(lambda: speeds(Bridge(PLAIN, depth, 1, 1, 2), ALL))[0], Broken)
         self.assertIsNone(least_depth(PLAIN, 1, 1, ALL, 2))
 
     def test_a_slower_lap_asks_for_less(self):
@@ -452,7 +442,7 @@ class LeastDepthTest(unittest.TestCase):
         for bridge, lap in some_laps(some_bridges(130, 41, 6), 42):
             code, ahead, behind, slow = bridge.code, bridge.ahead, bridge.behind, bridge.slow
             right = depth_of(code, ahead, behind, lap, slow)
-            answer = told(lambda: least_depth(code, ahead, behind, lap, slow))
+            answer = answer_of(lambda: least_depth(code, ahead, behind, lap, slow))
             self.assertTrue(same(answer, right) or answer == right == (TooMany, 3000), (code.words, bridge, lap, answer))
             counts[str(answer)] = counts.get(str(answer), 0) + 1
         self.assertTrue({"None", "1", "2"} <= set(counts), counts)
