@@ -142,16 +142,18 @@ class Course:
 
         This is for courses that are not turning, in which nothing breaks.
         """
-        known, gates, half, other = self.known, self.gates, self.writer.half, self.reader.half
-        for number, node in enumerate(self.nodes):
+        known, gates, put_fields, take_fields = self.known, self.gates, self.writing[0].fields, self.reading[0].fields
+        for node in self.nodes:
             place = node >> self.place_at
-            writing, reading = self.lap[place]
-            puts, takes = self.writer.moves[writing], self.reader.moves[reading]
-            base = self.follows[place] + (node & self.fills)
-            group = self.pairs_at(number)
-            for pair in group:
-                if pair not in gates:
-                    gates[pair] = known[base + puts[pair & half] + takes[pair & other]]
+            writing, reading = self.writing[place], self.reading[place]
+            puts, takes = writing.known, reading.known
+            others = reading.found[node & take_fields][0]
+            group = []
+            for half in writing.found[node & put_fields][0]:
+                base, onward = (place << self.place_at) + half, self.follows[place] + (node & self.fills) + puts[half]
+                for other in others:
+                    gates[base + other] = known[onward + takes[other]]
+                    group.append(base + other)
             self.groups.append(group)
 
     def takes(self):
